@@ -1,0 +1,1 @@
+"""Goodtill: which answers may be told, and which entries may be changed."""

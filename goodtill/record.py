@@ -1,0 +1,121 @@
+"""Rows of events that grow, with all that tells which event may come next.
+
+A set of events is kept as a whole number here: the bit k stands for the event at the place k.
+"""
+
+from goodtill.forms import is_page_put, is_weighty, steps_back
+
+
+def has_bit(past, place):
+    """Whether a past has the event at a place."""
+    return (past >> place) & 1 == 1
+
+
+def put_behind(table, key, place):
+    """Puts a place behind the row that a dict has under a key."""
+    table.setdefault(key, []).append(place)
+
+
+class Record:
+    """A row of events with their pasts, lines, and the rows that bear on pages and promises."""
+
+    def __init__(self):
+        self.events = []
+        self.places = {}
+        self.pasts = []
+        self.lines = {}
+        self.starts = {}
+        self.weighty = {}
+        self.puts = {}
+        self.hands = {}
+        self.passes = {}
+        self.swears = {}
+        self.depths = {(): 0}
+
+    def take(self, event):
+        """Puts an event behind the row; that it may come is not asked here."""
+        place = len(self.events)
+        self.pasts.append(self.past_without(event) | (1 << place))
+        self.events.append(event)
+        self.places[event[0]] = place
+        self.put_on_line(event[0])
+        self.note_deed(event, place)
+
+    def past_without(self, event):
+        """The past of an event that comes next, without itself."""
+        past = 0
+        for step in steps_back(event):
+            past = past | self.pasts[self.places[step]]
+        return past
+
+    def put_on_line(self, event_id):
+        """Puts an id among those of its node, which ascend."""
+        line = self.lines.setdefault(event_id[0], [])
+        at = len(line)
+        while at > 0 and line[at - 1] > event_id:
+            at -= 1
+        line.insert(at, event_id)
+
+    def note_deed(self, event, place):
+        """Notes what later events ask of this one."""
+        event_id, _, deed = event
+        if is_weighty(event):
+            put_behind(self.weighty, event_id[0], place)
+        if deed[0] == "start":
+            put_behind(self.starts, event_id[0], place)
+        elif deed[0] == "put":
+            put_behind(self.puts, (deed[1], deed[2]), place)
+            if is_page_put(event):
+                self.depths[event_id] = self.depths[deed[1]] + 1
+        elif deed[0] == "hand":
+            put_behind(self.hands, deed[1], place)
+        elif deed[0] == "pass":
+            put_behind(self.passes, deed[1], place)
+        elif deed[0] == "swear":
+            put_behind(self.swears, deed[1], place)
+
+    def has_within(self, event_id, past):
+        """Whether the event of an id is in the row and in a past."""
+        return event_id in self.places and has_bit(past, self.places[event_id])
+
+    def those_within(self, places, past):
+        """The events at those of some places that a past has."""
+        return [self.events[place] for place in places if has_bit(past, place)]
+
+    def neighbours(self, event_id):
+        """The events next ahead of and next behind an id on its line, None where there is none."""
+        ahead = behind = None
+        for other in self.lines.get(event_id[0], []):
+            if other < event_id:
+                ahead = self.events[self.places[other]]
+            elif other > event_id and behind is None:
+                behind = self.events[self.places[other]]
+        return ahead, behind
+
+    def keeper(self, term, past):
+        """The node that keeps a page, which is there, by a past."""
+        hands = self.those_within(self.hands.get(term, []), past)
+        if hands:
+            return hands[-1][2][2]
+        if term == ():
+            return 0
+        return self.events[self.places[term]][2][3][1]
+
+    def entry_at(self, term, label, past):
+        """What stands at a label of a page, which is there, by a past."""
+        puts = self.those_within(self.puts.get((term, label), []), past)
+        if puts:
+            return puts[-1][2][3]
+        if term != ():
+            for first, entry in self.events[self.places[term]][2][3][2]:
+                if first == label:
+                    return entry
+        return None
+
+
+def record_of(events):
+    """A record of a row of events."""
+    record = Record()
+    for event in events:
+        record.take(event)
+    return record
