@@ -27,18 +27,18 @@ class World:
     def __init__(self, roster):
         self._roster = roster
         self._run = []
-        self._record = Record()
+        self._row = Record()
         self._losses = []
 
     def add(self, event, instant):
         """Puts an event with its instant behind the run, if it may come there."""
-        if not is_fraction(instant) or not comes_by_nine(self._record, event):
+        if not is_fraction(instant) or not comes_by_nine(self._row, event):
             raise BadDeed(0)
         if not self._is_in_time(event, instant):
             raise BadDeed(0)
-        if kind_of(event) != "hear" and self._is_torn(self._record.past_without(event)):
+        if kind_of(event) != "hear" and self._is_torn(self._row.past_without(event)):
             raise BadDeed(0)
-        self._record.take(event)
+        self._row.take(event)
         self._run.append((event, instant))
         if kind_of(event) == "start":
             self._note_losses(event)
@@ -59,21 +59,21 @@ class World:
         """Whether an event is the next one of its node and its instant may be the next one of the run."""
         if self._run and is_below(instant, self._run[-1][1]):
             return False
-        line = self._record.lines.get(event[0][0], [])
+        line = self._row.lines.get(event[0][0], [])
         if not line:
             return True
         if line[-1] > event[0]:
             return False
-        last, stood = self._run[self._record.places[line[-1]]]
+        last, stood = self._run[self._row.places[line[-1]]]
         return is_apart(bounds_of(self._roster, event[0][0]), (last[1], stood), (event[1], instant))
 
     def _note_losses(self, event):
         """Notes which weighty deeds may not stand in a past with a start."""
         lost = 0
-        for place in lacking(self._record, event):
+        for place in lacking(self._row, event):
             lost = lost | (1 << place)
         if lost:
-            self._losses.append((self._record.places[event[0]], lost))
+            self._losses.append((self._row.places[event[0]], lost))
 
     def _is_torn(self, past):
         """Whether a past has a start together with a weighty deed that this start does not keep."""

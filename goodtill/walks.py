@@ -48,4 +48,4 @@ def walk_by(contents, name, most):
         else:
             found = ended(entry, put, left)
             term = put
-    return ((found, tuple(names)), tuple(list(way)))
+    return ((found, tuple(names)), tuple(way))

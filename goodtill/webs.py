@@ -43,7 +43,8 @@ class Web:
         self._widen(event[1][1])
         into, out = self._new_edges(event)
         to_it = [self._way_into(row, into) for row in self._far]
-        if any([to_it[place] is not None and to_it[place] + weight > 0 for place, weight in out]):
+        # Beside each edge from it stands one back, so there is a way.
+        if any([to_it[place] + weight > 0 for place, weight in out]):
             raise Refused(event_id)
         self._grow(to_it, self._ways_out(out))
         self._places[event_id] = len(self._events)

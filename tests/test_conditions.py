@@ -102,6 +102,18 @@ class Alone(unittest.TestCase):
                                 ((0, 3, 2), (8, 1), ("tick",))],
                   [((0, 0, 1), (5, 1), ("tick",)), ((0, 0, 1), (7, 1), ("tick",)), ((0, 1, 0), (6, 1), ("start", (0, 0, 0)))])
 
+    def test_4_elder_lives_told_late(self):
+        rows = Rows()
+        rows.start(0, at=1)
+        rows.start(0, (0, 0, 0), at=9, life=5)
+        rows.do(0, "tick")
+        rows.do(0, "tick")
+        rows.do(0, "tick", life=0, at=3)
+        rows.do(0, "tick", life=0, at=6)
+        rows.start(0, (0, 0, 0), at=8, life=2)
+        bad = [((0, 0, 3), (reading, 1), ("tick",)) for reading in (5, 9)] + [((0, 2, 1), (7, 1), ("tick",)), ((0, 3, 0), (7, 1), ("start", (0, 0, 0)))]
+        self.case(4, rows.row, bad, [((0, 0, 3), (reading, 1), ("tick",)) for reading in (6, 7, 8)] + [((0, 2, 1), (8, 1), ("tick",))])
+
     def test_5_what_is_heard(self):
         rows = Rows()
         for node in (0, 1, 2):

@@ -18,7 +18,7 @@ BAD_NAMES = (None, True, "a", "abc", (), ["a"], ("",), ("a", "B"), ("a",) * 7, (
 GOOD_PLAIN = (("value", 0), ("value", 10 ** 49), ("name", ("a",)), ("name", ("abcdefgh",) * 6))
 BAD_PLAIN = (("value",), ("value", -1), ("value", True), ("value", None), ("value", (1,)), ("value", 1, 1),
              ["value", 1], ("name",), ("name", ()), ("name", "a"), ("name", ["a"]), ("name", ("a",), 1),
-             ("name", ("a",) * 7), ("name", ("",)), ("other", 1), (1, 1), ("value", 1, ()), (), (("value", 1),),
+             ("name", ("a",) * 7), ("name", ("",)), ("other", 1), ("other", ("a",)), (None, ("a",)), ("value", ("a",)), ("name", 1), (1, 1), ("value", 1, ()), (), (("value", 1),),
              "value", 5, True, [], (None, 1), (["value"], 1), nested(50))
 GOOD_PAGES = (("page", 0, ()), ("page", 31, (("a", ("value", 1)),)), ("page", 4, (("a", ("name", ("b",))), ("aa", ("value", 1)))),
               ("page", 1, tuple((label, ("value", 1)) for label in "abcdef")))
@@ -34,7 +34,7 @@ BAD_PAGES = tuple(("page", node, ()) for node in BAD_NODES) + (
 GOOD_FOUND = (("value", 0), ("page", 0, ()), ("page", 31, (31, 0, 0)), ("nothing",), ("long",), ("far",))
 BAD_FOUND = (None, True, "nothing", ["nothing"], ("nothing", 1), ("long", ()), ("far", 1), (), ("value",), ("value", -1),
              ("value", True), ("page", 0), ("page", 32, ()), ("page", 0, None), ("page", 0, [1]), ("page", 0, (1,)),
-             ("page", 0, (), ()), ("other",), (("far",),), ("name", ("a",)))
+             ("page", 0, (), ()), ("other",), ("other", 0, ()), ("value", 0, ()), ("page", 1), ("value", ()), (("far",),), ("name", ("a",)))
 
 GOOD_PARTS = {
     "kept": (None, (0, 0, 0), (31, 10 ** 7, 10 ** 7)),

@@ -75,7 +75,7 @@ class Bounds(unittest.TestCase):
     def test_earliest_fits(self):
         far_back = 0
         for dice, roster, row, far in fitting_rows(3000, 200):
-            event_id, back = dice.choice(row)[0], pair(Fraction(dice.randint(0, 10 ** 4), dice.choice((1, 7, 9973))))
+            event_id, back = dice.choice(row)[0], pair(Fraction(dice.choice((0, 0, 0, 1, 10 ** 4)), dice.choice((1, 7, 9973))))
             instants = earliest_fit(roster, row, event_id, back)
             self.assertTrue(slow_webs.is_fit(roster, row, instants))
             for event, instant in zip(row, instants):
@@ -108,6 +108,23 @@ class Bounds(unittest.TestCase):
         self.assertEqual(instants[3], (0, 1))
         self.assertLessEqual(number(instants[0]), -Fraction(10 ** 20, 9973))
         self.assertIsNone(fit_fault((), row, instants))
+
+    def test_no_further_back_than_the_letters_ask(self):
+        roster, row = ((1, 2), (1, 1)), two_letters()
+        for many in range(1, 7):
+            for event in row[:many]:
+                instants = earliest_fit(roster, row[:many], event[0], (0, 1))
+                self.assertIsNone(fit_fault(roster, row[:many], instants))
+        rows = Rows()
+        rows.start(0)
+        sent = rows.do(0, "send", 1)
+        rows.start(1, at=3)
+        rows.do(1, "hear", sent, at=5)
+        rows.do(1, "tick", at=9)
+        for back in ((0, 1), (3, 1), (4, 1), (5, 1)):
+            instants = earliest_fit((), rows.events(), (1, 0, 2), back)
+            self.assertIsNone(fit_fault((), rows.events(), instants))
+            self.assertEqual(instants[2:], ((-6, 1), (-4, 1), (0, 1)))
 
     def test_unknown_ids(self):
         row = two_letters()

@@ -129,6 +129,21 @@ class Faults(unittest.TestCase):
         rows.do(1, "hear", (0, 0, 3))
         self.case((), rows.run(), [(((1, 0, 4), (0, 1), ("tick",)), (0, 1))], [(((1, 0, 4), (0, 1), ("hear", (0, 1, 1))), (0, 1))])
 
+    def test_torn_by_what_comes_back(self):
+        rows = Rows()
+        rows.start(0)
+        rows.start(1)
+        rows.put(0, (), "a", ("value", 1))
+        rows.letter(0, 1)
+        rows.do(1, "send", 0)
+        rows.start(0, (0, 0, 0))
+        rows.do(0, "hear", (1, 0, 2))
+        bad = [(((0, 1, 2), (0, 1), deed), (0, 1)) for deed in (("tick",), ("send", 1), ("put", (), "a", ("value", 1)))]
+        bad += [(((0, 2, 0), (0, 1), ("start", (0, 1, 1))), (0, 1))]
+        good = [(((0, 1, 2), (0, 1), ("hear", (1, 0, 2))), (0, 1)), (((0, 2, 0), (0, 1), ("start", (0, 1, 0))), (0, 1))]
+        self.case((), rows.run(), bad, good)
+        self.assertEqual(lost_puts(rows.run()), ((0, 0, 1),))
+
     def test_lost_givings_and_swearings_tear_too(self):
         for deed in (("give", (), "a", (1, 1), 1), ("swear", (0, 0, 1)), ("pass", (0, 0, 1), 2), ("hand", (), 1)):
             rows = Rows()

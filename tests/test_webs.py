@@ -116,6 +116,37 @@ class Webs(unittest.TestCase):
         self.assertEqual(web.way((1, 0, 1), (0, 0, 0)), (-12, 1))
         self.assertIsNone(web.way((0, 0, 0), (1, 0, 1)))
 
+    def test_lives_added_in_any_order(self):
+        rows = Rows()
+        rows.start(0, at=1)
+        for life, at in ((7, 20), (3, 10), (5, 14)):
+            rows.start(0, (0, 0, 0), life=life, at=at)
+        rows.do(0, "tick", life=3, at=11)
+        rows.do(0, "tick", life=0, at=4)
+        rows.start(1)
+        roster, row = ((1, 2),), rows.events()
+        web, far = web_of(roster, row), slow_webs.ways(roster, row)
+        for x in row:
+            for y in row:
+                self.assertEqual(web.way(x[0], y[0]), pair(far[x[0], y[0]]))
+        self.assertEqual(web.way((0, 0, 1), (0, 3, 0)), (6, 1))
+        self.assertEqual(web.way((0, 7, 0), (0, 0, 1)), (-32, 1))
+
+    def test_the_nearest_neighbours_bound(self):
+        rows = Rows()
+        rows.start(0, at=0)
+        rows.start(0, (0, 0, 0), life=7, at=20)
+        rows.start(0, (0, 0, 0), life=3, at=10)
+        rows.start(1)
+        rows.do(0, "send", 1, life=3)
+        rows.do(1, "hear", (0, 3, 1))
+        rows.do(1, "send", 0)
+        rows.do(1, "send", 0, at=1)
+        web = web_of((), rows.events())
+        self.assertEqual(told(web.add, rows.event(0, "hear", (1, 0, 2), life=0, at=10)), ("gives", None))
+        self.assertEqual(web.way((1, 0, 2), (0, 3, 0)), (0, 1))
+        self.assertEqual(told(web.add, ((0, 0, 2), (10, 1), ("hear", (1, 0, 3)))), ("Refused", (0, 0, 2)))
+
     def test_an_elder_life_that_closes_a_ring(self):
         rows = Rows()
         rows.start(0)
