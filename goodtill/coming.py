@@ -1,6 +1,7 @@
 """Which event may come behind the events of a record: the eleven conditions of a view."""
 
 from goodtill.forms import is_event, is_page_put, is_weighty, kind_of, steps_back
+from goodtill.holding import has_give, has_left, holders
 from goodtill.record import has_bit
 
 DEEPEST = 5
@@ -49,17 +50,10 @@ def goes_well(record, event):
     """Conditions 5 and 6: a letter is heard where it went, and nothing goes to its own node."""
     node, deed = event[0][0], event[2]
     if deed[0] == "hear":
-        return record.events[record.places[deed[1]]][2] == ("send", node)
+        return record.event(deed[1])[2] == ("send", node)
     if deed[0] in ("send", "give", "pass", "hand"):
         return deed[-1] != node
     return True
-
-
-def has_page(record, term, past):
-    """Whether a page is there by a past."""
-    if term == ():
-        return True
-    return record.has_within(term, past) and is_page_put(record.events[record.places[term]])
 
 
 def keeps_its_page(record, event, past):
@@ -67,7 +61,7 @@ def keeps_its_page(record, event, past):
     deed = event[2]
     if deed[0] not in ("put", "give", "hand"):
         return True
-    return has_page(record, deed[1], past) and record.keeper(deed[1], past) == event[0][0]
+    return record.has_page(deed[1], past) and record.keeper_row(deed[1], past)[1] == event[0][0]
 
 
 def changes_something(record, event, past):
@@ -77,27 +71,7 @@ def changes_something(record, event, past):
         return True
     if is_page_put(event):
         return record.depths[deed[1]] < DEEPEST
-    return record.entry_at(deed[1], deed[2], past) != deed[3]
-
-
-def is_holder(record, give, node, past):
-    """Whether a node holds a promise by a past that has the giving."""
-    if node in (give[0][0], give[2][4]):
-        return True
-    passes = record.those_within(record.passes.get(give[0], []), past)
-    return any([event[2][2] == node for event in passes])
-
-
-def has_left(record, give, node, past):
-    """Whether a node has sworn a promise off by a past, or has handed its page on as the giver."""
-    swears = record.those_within(record.swears.get(give[0], []), past)
-    if any([event[0][0] == node for event in swears]):
-        return True
-    if give[0][0] != node:
-        return False
-    hands = record.those_within(record.hands.get(give[2][1], []), past)
-    behind = [event for event in hands if record.has_within(give[0], record.pasts[record.places[event[0]]])]
-    return any([event[0][0] == node for event in behind])
+    return record.content(deed[1], deed[2], past)[1] != deed[3]
 
 
 def holds_its_promise(record, event, past):
@@ -105,12 +79,9 @@ def holds_its_promise(record, event, past):
     node, deed = event[0][0], event[2]
     if deed[0] not in ("pass", "swear"):
         return True
-    if not record.has_within(deed[1], past):
+    if not has_give(record, deed[1], past):
         return False
-    give = record.events[record.places[deed[1]]]
-    if kind_of(give) != "give":
-        return False
-    return is_holder(record, give, node, past) and not has_left(record, give, node, past)
+    return node in holders(record, deed[1], past) and not has_left(record, deed[1], node, past)
 
 
 def comes_by_nine(record, event):
@@ -154,8 +125,7 @@ def fits_its_line(record, event):
         if step[0] == event_id[0] and step > event_id:
             return False
         seen[step] = True
-        earlier = record.events[record.places[step]]
-        todo.extend(steps_back(earlier))
+        todo.extend(steps_back(record.event(step)))
         ahead = record.neighbours(step)[0]
         if ahead is not None:
             todo.append(ahead[0])

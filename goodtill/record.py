@@ -4,6 +4,7 @@ A set of events is kept as a whole number here: the bit k stands for the event a
 """
 
 from goodtill.forms import is_page_put, is_weighty, steps_back
+from goodtill.labels import gap_of
 
 
 def has_bit(past, place):
@@ -27,6 +28,9 @@ class Record:
         self.starts = {}
         self.weighty = {}
         self.puts = {}
+        self.bearing = {}
+        self.gives = {}
+        self.spans = {}
         self.hands = {}
         self.passes = {}
         self.swears = {}
@@ -65,8 +69,12 @@ class Record:
             put_behind(self.starts, event_id[0], place)
         elif deed[0] == "put":
             put_behind(self.puts, (deed[1], deed[2]), place)
+            self.bearing.setdefault(deed[1], {})[deed[2]] = True
             if is_page_put(event):
                 self.depths[event_id] = self.depths[deed[1]] + 1
+                self.bearing[event_id] = {label: True for label, _ in deed[3][2]}
+        elif deed[0] == "give":
+            put_behind(self.gives, deed[1], place)
         elif deed[0] == "hand":
             put_behind(self.hands, deed[1], place)
         elif deed[0] == "pass":
@@ -87,30 +95,59 @@ class Record:
         ahead = behind = None
         for other in self.lines.get(event_id[0], []):
             if other < event_id:
-                ahead = self.events[self.places[other]]
+                ahead = self.event(other)
             elif other > event_id and behind is None:
-                behind = self.events[self.places[other]]
+                behind = self.event(other)
         return ahead, behind
 
-    def keeper(self, term, past):
-        """The node that keeps a page, which is there, by a past."""
-        hands = self.those_within(self.hands.get(term, []), past)
-        if hands:
-            return hands[-1][2][2]
-        if term == ():
-            return 0
-        return self.events[self.places[term]][2][3][1]
+    def event(self, event_id):
+        """The event of an id, which is in the row."""
+        return self.events[self.places[event_id]]
 
-    def entry_at(self, term, label, past):
-        """What stands at a label of a page, which is there, by a past."""
+    def everything(self):
+        """All events of the row, as a past."""
+        return (1 << len(self.events)) - 1
+
+    def has_page(self, term, past):
+        """Whether a page is there by a past."""
+        if term == ():
+            return True
+        return self.has_within(term, past) and is_page_put(self.event(term))
+
+    def keeper_rows(self, term, past):
+        """The keeper rows of a page, which is there, by a past, with the nodes that they name, the eldest first."""
+        house = 0 if term == () else self.event(term)[2][3][1]
+        hands = self.those_within(self.hands.get(term, []), past)
+        return [(term, house)] + [(event[0], event[2][2]) for event in hands]
+
+    def keeper_row(self, term, past):
+        """The newest keeper row of a page, which is there, by a past, with the node that it names."""
+        return self.keeper_rows(term, past)[-1]
+
+    def content(self, term, label, past):
+        """The newest put at a label of a page, which is there, by a past, or else the term, and the entry there."""
         puts = self.those_within(self.puts.get((term, label), []), past)
         if puts:
-            return puts[-1][2][3]
+            return (puts[-1][0], puts[-1][2][3])
         if term != ():
-            for first, entry in self.events[self.places[term]][2][3][2]:
+            for first, entry in self.event(term)[2][3][2]:
                 if first == label:
-                    return entry
-        return None
+                    return (term, entry)
+        return (term, None)
+
+    def standing(self, term, past):
+        """The labels of a page, which is there, at which an entry stands by a past, with it, ascending."""
+        rows = [(label, self.content(term, label, past)[1]) for label in sorted(self.bearing.get(term, {}))]
+        return [row for row in rows if row[1] is not None]
+
+    def span(self, give):
+        """What a promise covers by the past of its giving, which is in the row."""
+        if give not in self.spans:
+            place = self.places[give]
+            _, term, label, _, _ = self.events[place][2]
+            labels = [first for first, _ in self.standing(term, self.pasts[place])]
+            self.spans[give] = ("label", label) if label in labels else ("gap",) + gap_of(labels, label)
+        return self.spans[give]
 
 
 def record_of(events):

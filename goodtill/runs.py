@@ -5,20 +5,11 @@ from goodtill.edges import bounds_of
 from goodtill.errors import BadDeed, BadRun, Refused
 from goodtill.fits import is_apart
 from goodtill.forms import kind_of
+from goodtill.losses import all_lost, is_torn, losses_by, losses_of
 from goodtill.pasts import by_id, newest_in, past_ids, past_in
 from goodtill.rates import is_below, is_fraction
 from goodtill.record import Record, has_bit, record_of
 from goodtill.walks import contents_of, walk_by
-
-
-def lacking(record, event):
-    """The weighty deeds of its own node, of elder lives, that a start in a record does not keep."""
-    past = record.pasts[record.places[event[0]]]
-    lost = []
-    for place in record.weighty.get(event[0][0], []):
-        if record.events[place][0][1] < event[0][1] and not has_bit(past, place):
-            lost.append(place)
-    return lost
 
 
 class World:
@@ -36,12 +27,11 @@ class World:
             raise BadDeed(0)
         if not self._is_in_time(event, instant):
             raise BadDeed(0)
-        if kind_of(event) != "hear" and self._is_torn(self._row.past_without(event)):
+        if kind_of(event) != "hear" and is_torn(self._row.past_without(event), self._losses):
             raise BadDeed(0)
         self._row.take(event)
         self._run.append((event, instant))
-        if kind_of(event) == "start":
-            self._note_losses(event)
+        self._losses.extend(losses_by(self._row, event))
 
     def run(self):
         """The run so far."""
@@ -66,18 +56,6 @@ class World:
             return False
         last, stood = self._run[self._row.places[line[-1]]]
         return is_apart(bounds_of(self._roster, event[0][0]), (last[1], stood), (event[1], instant))
-
-    def _note_losses(self, event):
-        """Notes which weighty deeds may not stand in a past with a start."""
-        lost = 0
-        for place in lacking(self._row, event):
-            lost = lost | (1 << place)
-        if lost:
-            self._losses.append((self._row.places[event[0]], lost))
-
-    def _is_torn(self, past):
-        """Whether a past has a start together with a weighty deed that this start does not keep."""
-        return any([has_bit(past, place) and past & lost != 0 for place, lost in self._losses])
 
 
 def check_run(roster, run):
@@ -123,28 +101,22 @@ def are_alike(one, two, event_id):
     return past_rows(one, event_id) == past_rows(two, event_id)
 
 
-def lost_places(run):
-    """The places of the lost weighty deeds of a run, as a dict of True."""
-    record = record_of(events_ahead(run, len(run)))
-    lost = {}
-    for event in record.events:
-        if kind_of(event) == "start":
-            for place in lacking(record, event):
-                lost[place] = True
-    return lost
+def lost_in(run):
+    """The lost weighty deeds of a run, as a past."""
+    return all_lost(losses_of(record_of(events_ahead(run, len(run)))))
 
 
 def lost_puts(run):
     """The ids of the lost puts of a run, ascending."""
-    lost = [run[place][0] for place in lost_places(run)]
-    return tuple(sorted([event[0] for event in lost if kind_of(event) == "put"]))
+    lost = lost_in(run)
+    events = [event for place, (event, _) in enumerate(run) if has_bit(lost, place)]
+    return tuple(sorted([event[0] for event in events if kind_of(event) == "put"]))
 
 
 def walk_truth(run, place, name, most):
     """The answer of a walk by what is so at a place of a run."""
-    lost = lost_places(run)
-    events = events_ahead(run, place)
-    kept = [event for at, event in enumerate(events) if at not in lost]
+    lost = lost_in(run)
+    kept = [event for at, (event, _) in enumerate(run[:place]) if not has_bit(lost, at)]
     return walk_by(contents_of(kept), name, most)[0]
 
 

@@ -5,7 +5,7 @@ from fractions import Fraction
 
 from goodtill.coming import may_come
 from goodtill.record import Record
-from tests.slow_views import some_event
+from tests.slow_views import back, some_event
 from tests.slow_webs import pair, some_roster
 
 
@@ -60,3 +60,13 @@ def rows_with_clocks(seed, many):
         else:
             row = some_row(dice, dice.randint(1, 16), dice.randint(1, 3))
         yield dice, some_roster(dice), with_readings(dice, row)
+
+
+def in_some_order(dice, events):
+    """Some events in another order in which each stands behind its steps back, where these are among them."""
+    left, made = list(events), []
+    while left:
+        ids = {event[0] for event in left}
+        made.append(dice.choice([event for event in left if not ids & set(back(event))]))
+        left.remove(made[-1])
+    return tuple(made)

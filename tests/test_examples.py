@@ -195,6 +195,177 @@ raises Refused(0)
 raises Refused((0, 1, 0))
 """
 
+CHAPTERS_11_AND_12 = r"""
+>>> from goodtill.pages import content_of, does_keep, keeper_of, page_gap, page_rows
+>>> from goodtill.tree import is_broken, is_fast, walk_view, way_to
+>>> start = ((0, 0, 0), (0, 1), ("start", None))
+>>> page = ((0, 0, 1), (1, 1), ("put", (), "c", ("page", 0, (("k", ("name", ("b",))),))))
+>>> deed = ((0, 0, 2), (1, 1), ("put", (0, 0, 1), "m", ("value", 3)))
+>>> name = ((0, 0, 3), (1, 1), ("put", (), "b", ("name", ("c", "m"))))
+>>> hand = ((0, 0, 4), (2, 1), ("hand", (0, 0, 1), 4))
+>>> events = (start, page, deed, name, hand)
+>>> keeper_of(events, ()), keeper_of(events, (0, 0, 1)), does_keep(events, 0, (0, 0, 1)), does_keep(events, 4, ())
+(((), 0), ((0, 0, 4), 4), False, False)
+>>> content_of(events, (0, 0, 1), "k"), content_of(events, (0, 0, 1), "m"), content_of(events, (), "m")
+(((0, 0, 1), ('name', ('b',))), ((0, 0, 2), ('value', 3)), ((), None))
+>>> page_rows(events, (0, 0, 1)), page_gap(events, (), "bb")
+((('k', ('name', ('b',))), ('m', ('value', 3))), ('b', 'c'))
+>>> page_gap(events, (), "b")
+raises Refused('b')
+>>> keeper_of(events, (0, 0, 2))
+raises Refused((0, 0, 2))
+>>> walk_view(events, ("b",), 1)
+((('value', 3), (('c', 'm'),)), (((), 'b'), ((), 'c'), ((0, 0, 1), 'm')))
+>>> walk_view(events, ("b",), 0)[0], walk_view(events, ("c",), 0)[0], walk_view(events, ("b", "a", "a", "a", "a", "a"), 8)[0]
+((('far',), (('c', 'm'),)), (('page', 0, (0, 0, 1)), ()), (('long',), (('c', 'm'),)))
+>>> way_to(events, (0, 0, 1), "m"), is_broken(events, (0, 0, 1)), is_fast(events, 0, ()), is_fast(events, 0, (0, 0, 1))
+((((), 'c'), ((0, 0, 1), 'm')), False, True, True)
+>>> sent = events + (((0, 0, 5), (2, 1), ("put", (), "c", None)), ((0, 0, 6), (2, 1), ("send", 4)))
+>>> is_broken(sent, (0, 0, 1)), is_fast(sent, 0, (0, 0, 1)), walk_view(sent, ("b",), 1)[0]
+(True, False, (('nothing',), (('c', 'm'),)))
+>>> is_fast(sent, 4, ())
+raises Refused(4)
+"""
+
+CHAPTER_13 = r"""
+>>> from goodtill.promises import does_stand, gives_on, has_sworn, holders_of, is_past, span_of, ticks_left
+>>> asked = (((1, 0, 0), (0, 1), ("start", None)), ((1, 0, 1), (0, 1), ("send", 0)))
+>>> house = (((0, 0, 0), (5, 1), ("start", None)), ((0, 0, 1), (5, 1), ("hear", (1, 0, 1))))
+>>> gives = (((0, 0, 2), (5, 1), ("put", (), "a", ("value", 7))), ((0, 0, 3), (5, 1), ("give", (), "a", (9, 1), 1)), ((0, 0, 4), (6, 1), ("give", (), "m", (8, 1), 1)))
+>>> heard = (((0, 0, 5), (6, 1), ("send", 1)), ((1, 0, 2), (1, 1), ("hear", (0, 0, 5))))
+>>> view = asked + house + gives + heard
+>>> span_of(view, (0, 0, 3)), span_of(view, (0, 0, 4))
+(('label', 'a'), ('gap', 'a', None))
+>>> later = view + (((0, 0, 6), (6, 1), ("put", (), "k", ("value", 1))), ((0, 0, 7), (6, 1), ("give", (), "m", (7, 1), 2)))
+>>> gives_on(later, (), "m"), gives_on(later, (), "k"), span_of(later, (0, 0, 7))
+(((0, 0, 4), (0, 0, 7)), (), ('gap', 'k', None))
+>>> moved = later + (((1, 0, 3), (1, 1), ("pass", (0, 0, 3), 2)), ((1, 0, 4), (1, 1), ("swear", (0, 0, 3))), ((0, 0, 8), (6, 1), ("hand", (), 3)))
+>>> holders_of(moved, (0, 0, 3)), [has_sworn(moved, (0, 0, 3), node) for node in (0, 1, 2)]
+((0, 1, 2), [True, True, False])
+>>> roster = ((1, 1), (1, 2))
+>>> [ticks_left(roster, view, 1, give) for give in ((0, 0, 3), (0, 0, 4))], ticks_left(roster, view, 0, (0, 0, 3))
+([(1, 1), (1, 2)], (3, 1))
+>>> on = [view + (((1, 0, 3), reading, ("tick",)),) for reading in ((199, 100), (2, 1), (4, 1))]
+>>> [(does_stand(roster, row, 1, (0, 0, 3)), is_past(roster, row, 1, (0, 0, 3))) for row in on]
+[(True, False), (False, False), (False, True)]
+"""
+
+CHAPTER_14 = r"""
+>>> from goodtill.finders import good_ticks, may_tell, why_certain
+>>> from goodtill.pocket import pocket_of
+>>> roster = ((1, 1), (2, 4), (1, 2))
+>>> asked = (((2, 0, 0), (0, 1), ("start", None)), ((2, 0, 1), (0, 1), ("send", 0)))
+>>> root = (((0, 0, 0), (5, 1), ("start", None)), ((0, 0, 1), (5, 1), ("hear", (2, 0, 1))), ((0, 0, 2), (5, 1), ("put", (), "b", ("page", 1, (("d", ("value", 3)),)))), ((0, 0, 3), (5, 1), ("put", (), "c", ("name", ("b", "d")))), ((0, 0, 4), (5, 1), ("give", (), "b", (9, 1), 2)), ((0, 0, 5), (5, 1), ("give", (), "c", (7, 1), 2)), ((0, 0, 6), (5, 1), ("send", 1)))
+>>> below = (((1, 0, 0), (0, 1), ("start", None)), ((1, 0, 1), (0, 1), ("hear", (0, 0, 6))), ((1, 0, 2), (1, 1), ("give", (0, 0, 2), "a", (3, 1), 2)), ((1, 0, 3), (1, 1), ("give", (0, 0, 2), "d", (7, 4), 2)), ((1, 0, 4), (1, 1), ("send", 2)))
+>>> view = asked + root + below + (((2, 0, 2), (3, 2), ("hear", (1, 0, 4))),)
+>>> why_certain(roster, view, 2, (), "b"), why_certain(roster, view, 2, (), "c"), why_certain(roster, view, 1, (0, 0, 2), "d")
+(('promise', (0, 0, 4)), None, ('own',))
+>>> may_tell(roster, view, 2, ("b", "d"), 0), may_tell(roster, view, 2, ("c",), 1), may_tell(roster, view, 2, ("b", "a", "x"), 0)
+(('told', (('value', 3), ())), ('not', (), 'c'), ('told', (('nothing',), ())))
+>>> good_ticks(roster, view, 2, ("b", "a"), 0), good_ticks(roster, view, 2, ("b", "d"), 0)
+((1, 2), (1, 4))
+>>> pocket_of(roster, view, 2)
+(((), ('label', 'b'), ('page', 1, (('d', ('value', 3)),)), (1, 2)), (('b',), ('open', None, 'd'), None, (1, 2)), (('b',), ('label', 'd'), ('value', 3), (1, 4)))
+"""
+
+CHAPTER_15 = r"""
+>>> from goodtill.houses import entry_points, may_put, own_end, put_wait, shut_places, why_alive
+>>> roster = ((1, 1), (1, 2))
+>>> asked = (((0, 0, 0), (0, 1), ("start", None)), ((0, 0, 1), (0, 1), ("put", (), "a", ("value", 5))), ((1, 0, 0), (0, 1), ("start", None)), ((1, 0, 1), (0, 1), ("send", 0)), ((0, 0, 2), (0, 1), ("hear", (1, 0, 1))))
+>>> given = asked + (((0, 0, 3), (0, 1), ("give", (), "a", (10, 1), 1)), ((0, 0, 4), (0, 1), ("send", 1)))
+>>> entry_points(given, 0), shut_places(given, 0, (), "a"), why_alive(roster, given, 0, (0, 0, 3))
+(((1, 0, 1),), (((), 'a'),), ('own', (1, 0, 1)))
+>>> why_alive(roster, given[:-1], 0, (0, 0, 3)), why_alive(roster, given + (((0, 0, 5), (10, 1), ("tick",)),), 0, (0, 0, 3))
+(None, None)
+>>> entry_points(given, 7)
+raises Refused(7)
+>>> own_end(given, 1, (), "a")
+raises Refused(((), 'a'))
+>>> shut_places(given, 1, (0, 0, 1), "a")
+raises Refused((0, 0, 1))
+>>> why_alive(roster, given, 0, (0, 0, 4))
+raises Refused((0, 0, 4))
+>>> may_put(roster, given, 0, (), "a"), put_wait(roster, given, 0, (), "a"), own_end(given, 0, (), "a")
+(('not', ((0, 0, 3),)), (10, 1), (10, 1))
+>>> later = given + (((1, 0, 2), (3, 1), ("send", 0)), ((0, 0, 5), (4, 1), ("hear", (1, 0, 2))))
+>>> put_wait(roster, later, 0, (), "a"), own_end(later, 0, (), "a")
+((4, 1), (6, 1))
+>>> may_put(roster, later + (((0, 0, 6), (8, 1), ("tick",)),), 0, (), "a")
+('let', ((), 'a'))
+>>> may_put(roster, later + (((0, 0, 6), (4, 1), ("send", 1)), ((0, 0, 7), (8, 1), ("tick",))), 0, (), "a")
+('not', ((0, 0, 3),))
+"""
+
+CHAPTER_18 = r"""
+>>> from goodtill.houses import may_put, put_wait
+>>> from goodtill.recall import fewest_swears, left_to_swear, sworn_view
+>>> roster = ((1, 1), (1, 2))
+>>> given = (((1, 0, 0), (0, 1), ("start", None)), ((1, 0, 1), (0, 1), ("send", 0)), ((0, 0, 0), (0, 1), ("start", None)), ((0, 0, 1), (0, 1), ("hear", (1, 0, 1))), ((0, 0, 2), (0, 1), ("put", (), "a", ("value", 5))), ((0, 0, 3), (0, 1), ("give", (), "a", (10, 1), 1)), ((0, 0, 4), (0, 1), ("send", 1)))
+>>> passed = given + (((1, 0, 2), (1, 1), ("hear", (0, 0, 4))), ((1, 0, 3), (1, 1), ("pass", (0, 0, 3), 2)), ((1, 0, 4), (1, 1), ("send", 2)), ((1, 0, 5), (1, 1), ("send", 0)))
+>>> two = (((2, 0, 0), (0, 1), ("start", None)), ((2, 0, 1), (0, 1), ("hear", (1, 0, 4))))
+>>> heard = passed + (((0, 0, 5), (4, 1), ("hear", (1, 0, 5))),)
+>>> left_to_swear(roster, heard, 0, (), "a"), fewest_swears(roster, heard, 0, (), "a"), put_wait(roster, heard, 0, (), "a")
+(((((), 'a'), (((0, 0, 3), (1, 2)),)),), 2, (6, 1))
+>>> one = sworn_view(heard, ((1, (0, 0, 3)),), 0)
+>>> one[len(heard):]
+(((1, 0, 6), (1, 1), ('swear', (0, 0, 3))), ((1, 0, 7), (1, 1), ('send', 0)), ((0, 0, 6), (4, 1), ('hear', (1, 0, 7))))
+>>> left_to_swear(roster, one, 0, (), "a"), put_wait(roster, one, 0, (), "a")
+(((((), 'a'), (((0, 0, 3), (2,)),)),), (6, 1))
+>>> sworn_view(heard, ((1, (0, 0, 3)), (2, (0, 0, 3))), 0)
+raises Refused((2, (0, 0, 3)))
+>>> may_put(roster, sworn_view(heard + two, ((2, (0, 0, 3)), (1, (0, 0, 3))), 0), 0, (), "a")
+('let', ((), 'a'))
+>>> sworn_view(heard, (), 2)
+raises Refused(2)
+"""
+
+CHAPTER_19 = r"""
+>>> from goodtill.custody import keeper_rows, owed_gives, standing_terms, unknown_to_keeper
+>>> zero = (((0, 0, 0), (0, 1), ("start", None)), ((0, 0, 1), (0, 1), ("put", (), "x", ("page", 1, (("a", ("value", 1)),)))), ((0, 0, 2), (0, 1), ("send", 1)))
+>>> one = (((1, 0, 0), (0, 1), ("start", None)), ((1, 0, 1), (0, 1), ("hear", (0, 0, 2))), ((1, 0, 2), (0, 1), ("give", (0, 0, 1), "b", (9, 1), 2)), ((1, 0, 3), (0, 1), ("give", (0, 0, 1), "a", (4, 1), 2)))
+>>> more = (((1, 0, 4), (1, 1), ("hand", (0, 0, 1), 2)), ((1, 0, 5), (1, 1), ("send", 2)), ((2, 0, 0), (5, 1), ("start", None)), ((2, 0, 1), (5, 1), ("hear", (1, 0, 5))))
+>>> owed_gives(zero + one + more, 2, (0, 0, 1)), keeper_rows(zero + one + more, (0, 0, 1))
+((('a', ((1, 0, 3),)), ('b', ((1, 0, 2),))), (((0, 0, 1), 1), ((1, 0, 4), 2)))
+>>> owed_gives(zero + one + more, 1, (0, 0, 1))
+raises Refused((0, 0, 1))
+>>> again = (((0, 0, 3), (2, 1), ("put", (), "x", None)), ((0, 0, 4), (2, 1), ("put", (), "x", ("page", 1, (("a", ("value", 1)),)))))
+>>> run = tuple(zip(zero + one + more + again, ((0, 1),) * 7 + ((1, 1),) * 4 + ((2, 1),) * 2))
+>>> [unknown_to_keeper(run, place, (0, 0, 1)) for place in (5, 7, 11)], [standing_terms(run, place) for place in (1, 2, 12, 13)]
+([(), (), ()], [((),), ((), (0, 0, 1)), ((),), ((), (0, 0, 4))])
+>>> unknown_to_keeper(run, 8, (0, 0, 1))
+raises Refused((0, 0, 1))
+"""
+
+CHAPTER_20 = r"""
+>>> from goodtill.carry import joined_view, letter_events
+>>> row = (((1, 0, 0), (0, 1), ("start", None)), ((1, 0, 1), (1, 1), ("send", 0)), ((0, 0, 0), (0, 1), ("start", None)), ((0, 0, 1), (2, 1), ("hear", (1, 0, 1))), ((1, 0, 2), (2, 1), ("tick",)), ((0, 0, 2), (3, 1), ("send", 1)))
+>>> letter_events(row, (0, 0, 2)) == row[2:4] + row[5:]
+True
+>>> letter_events(row, (1, 0, 2))
+raises Refused((1, 0, 2))
+>>> joined_view(row[:2] + row[4:5], letter_events(row, (0, 0, 2))) == row[:2] + row[4:5] + row[2:4] + row[5:]
+True
+>>> joined_view(row[:2], row[2:3] + row[5:] + row[3:4])
+raises Refused((0, 0, 2))
+>>> from goodtill.tables import Table
+>>> table = Table(((1, 1), (1, 2)), 0)
+>>> told = [table.tell(event) for event in row[2:3] + row[:2] + row[3:5]]
+>>> table.tell(row[5])
+raises Refused((0, 0, 2))
+>>> table.live(), table.live_common(), table.way((1, 0, 2), (0, 0, 1)), table.way((0, 0, 1), (1, 0, 2))
+(((0, 0, 1), (1, 0, 2)), ((1, 0, 1), (1, 0, 2)), (-2, 1), None)
+>>> table.way((1, 0, 1), (0, 0, 1))
+raises Refused((1, 0, 1))
+>>> table = Table(((1, 1), (1, 2)), 0)
+>>> deeds = (((0, 0, 0), (0, 1), ("start", None)), ((1, 0, 0), (0, 1), ("start", None)), ((1, 0, 1), (0, 1), ("send", 0)), ((0, 0, 1), (0, 1), ("hear", (1, 0, 1))), ((0, 0, 2), (0, 1), ("give", (), "a", (10, 1), 1)), ((0, 0, 3), (0, 1), ("send", 1)))
+>>> told = [table.tell(event) for event in deeds]
+>>> table.stands((0, 0, 2)), table.past((0, 0, 2)), table.alive((0, 0, 2)), table.wait((), "a"), table.good(("a",), 0)
+(True, False, ('own', (1, 0, 1)), (10, 1), None)
+>>> table.tell(((1, 0, 2), (3, 1), ("send", 0)))
+>>> table.wait((), "a")
+raises Refused(0)
+"""
+
 
 class Examples(unittest.TestCase):
     def test_chapter_3(self):
@@ -220,6 +391,27 @@ class Examples(unittest.TestCase):
 
     def test_chapter_10(self):
         self.assertEqual(run_examples(self, CHAPTER_10), 19)
+
+    def test_chapters_11_and_12(self):
+        self.assertEqual(run_examples(self, CHAPTERS_11_AND_12), 19)
+
+    def test_chapter_13(self):
+        self.assertEqual(run_examples(self, CHAPTER_13), 15)
+
+    def test_chapter_14(self):
+        self.assertEqual(run_examples(self, CHAPTER_14), 11)
+
+    def test_chapter_15(self):
+        self.assertEqual(run_examples(self, CHAPTER_15), 15)
+
+    def test_chapter_18(self):
+        self.assertEqual(run_examples(self, CHAPTER_18), 14)
+
+    def test_chapter_19(self):
+        self.assertEqual(run_examples(self, CHAPTER_19), 10)
+
+    def test_chapter_20(self):
+        self.assertEqual(run_examples(self, CHAPTER_20), 18)
 
 
 if __name__ == "__main__":

@@ -210,6 +210,24 @@ class Interface(unittest.TestCase):
         "runs": "World.__init__(self,roster) World.add(self,event,instant) World.run(self) World.view(self,node) "
                 "World.walk(self,name,most) check_run(roster,run) seen_by(run,place,node) lost_puts(run) "
                 "walk_truth(run,place,name,most) is_stale(run,place) are_alike(one,two,event_id)",
+        "pages": "keeper_of(events,term) does_keep(events,node,term) content_of(events,term,label) page_rows(events,term) "
+                 "page_gap(events,term,label)",
+        "tree": "walk_view(events,name,most) way_to(events,term,label) is_broken(events,term) is_fast(events,node,term)",
+        "promises": "span_of(events,give) gives_on(events,term,label) holders_of(events,give) has_sworn(events,give,node) "
+                    "does_stand(roster,events,node,give) is_past(roster,events,node,give) ticks_left(roster,events,node,give)",
+        "finders": "why_certain(roster,events,node,term,label) may_tell(roster,events,node,name,most) "
+                   "good_ticks(roster,events,node,name,most)",
+        "pocket": "pocket_of(roster,events,node)",
+        "houses": "entry_points(events,node) shut_places(events,node,term,label) why_alive(roster,events,node,give) "
+                  "may_put(roster,events,node,term,label) put_wait(roster,events,node,term,label) own_end(events,node,term,label)",
+        "recall": "left_to_swear(roster,events,node,term,label) fewest_swears(roster,events,node,term,label) "
+                  "sworn_view(events,rows,node)",
+        "custody": "keeper_rows(events,term) owed_gives(events,node,term) unknown_to_keeper(run,place,term) "
+                   "standing_terms(run,place)",
+        "carry": "letter_events(events,send_id) joined_view(view,letter)",
+        "tables": "Table.__init__(self,roster,node) Table.tell(self,event) Table.live(self) Table.live_common(self) "
+                  "Table.way(self,x,y) Table.way_common(self,x,y) Table.stands(self,give) Table.past(self,give) "
+                  "Table.alive(self,give) Table.wait(self,term,label) Table.good(self,name,most)",
     }
 
     def test_names_and_arguments(self):

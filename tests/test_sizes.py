@@ -5,13 +5,27 @@ import time
 import unittest
 from fractions import Fraction
 
+from goodtill.carry import joined_view, letter_events
+from goodtill.custody import keeper_rows, owed_gives, standing_terms, unknown_to_keeper
+from goodtill.finders import good_ticks, may_tell, why_certain
 from goodtill.fits import earliest_fit, fit_fault, latest_fit, met_wishes, mixed_fit
+from goodtill.houses import entry_points, may_put, own_end, put_wait, shut_places, why_alive
+from goodtill.pages import page_rows
+from goodtill.pocket import pocket_of
+from goodtill.promises import does_stand, gives_on, has_sworn, holders_of, is_past, span_of, ticks_left
+from goodtill.recall import fewest_swears, left_to_swear, sworn_view
 from goodtill.runs import World, are_alike, check_run, is_stale, lost_puts, seen_by, walk_truth
+from goodtill.tables import Table
+from goodtill.tree import walk_view
 from goodtill.views import check_view, common_view, is_behind, life_gaps, past_of, view_of
 from goodtill.webs import positive_ring, ring_serves, ways_from, ways_to, web_of
 from goodtill.wire import decode_stream, encode_stream, pack_events, unpack_events
 from tests import some_events
+from tests.build import Rows
 from tests.slow_webs import pair
+from tests.some_houses import Play
+from tests.test_tables import in_turns
+from tests.told import told
 
 LONG = 5
 
@@ -49,6 +63,45 @@ def large_run(seed, many, nodes, denominator, widest=1000):
         last[node] = (event[0], event[1], now)
         run.append((event, pair(now)))
     return ((1, widest),) * nodes, tuple(run)
+
+
+def large_sight():
+    """A row of 60 events of 8 nodes, 24 givings, pages five deep, odd readings; and its pages."""
+    rows = Rows()
+    odd = 10 ** 8 - 1
+
+    def now():
+        return Fraction(len(rows.row) * 10 ** 4 * odd + 1, odd)
+
+    def do(node, *deed):
+        return rows.do(node, *deed, at=pair(now()))
+
+    for node in range(8):
+        do(node, "start", None)
+    sends = [do(node, "send", 0) for node in range(1, 8)]
+    for send in sends:
+        do(0, "hear", send)
+    term, terms = (), [()]
+    for label in "abcde":
+        term = do(0, "put", term, label, ("page", 0, (("a", ("value", 1)), ("z", ("name", ("a", "z"))))))
+        terms.append(term)
+    for number in range(24):
+        term = terms[number % 6]
+        do(0, "give", term, "abcde"[number % 6] if number < 5 else "abcdez"[number % 5], pair(now() + 10 ** 9 + number), 1 + number % 7)
+    for node in range(1, 5):
+        do(0, "send", node)
+    for node, number in zip(range(1, 5), range(37, 41)):
+        do(node, "hear", (0, 0, number))
+    do(0, "tick")
+    return ((1, 1000),) * 8, rows.events(), terms
+
+
+class FewGives(Play):
+    """A run with 24 givings at the most."""
+
+    def add(self, event):
+        many = len([one for one in self.record.events if one[2][0] == "give"])
+        return (event[2][0] != "give" or many < 24) and Play.add(self, event)
 
 
 class Sizes(unittest.TestCase):
@@ -129,6 +182,78 @@ class Sizes(unittest.TestCase):
         row = tuple(row)
         self.assertIs(check_view(row), row)
         self.assertEqual(len(life_gaps(row)), 9)
+
+    def test_rights_of_rows_of_60_events(self):
+        roster, row, terms = large_sight()
+        self.assertIs(check_view(row), row)
+        self.assertIsNone(positive_ring(roster, row))
+        self.assertEqual((len(row), len([event for event in row if event[2][0] == "give"])), (60, 24))
+        for term in terms:
+            page_rows(row, term)
+            keeper_rows(row, term)
+            owed_gives(row, 0, term)
+            for label in ("a", "c", "q"):
+                gives_on(row, term, label)
+                shut_places(row, 0, term, label)
+                may_put(roster, row, 0, term, label)
+                put_wait(roster, row, 0, term, label)
+                own_end(row, 0, term, label)
+                left_to_swear(roster, row, 0, term, label)
+                fewest_swears(roster, row, 0, term, label)
+                for node in (0, 1, 2, 3, 4):
+                    why_certain(roster, row, node, term, label)
+        for give in [event[0] for event in row if event[2][0] == "give"]:
+            span_of(row, give)
+            holders_of(row, give)
+            has_sworn(row, give, 0)
+            for node in (0, 1, 4):
+                does_stand(roster, row, node, give)
+                is_past(roster, row, node, give)
+                ticks_left(roster, row, node, give)
+                why_alive(roster, row, node, give)
+        pairs = [(event[2][4], event[0]) for event in row if event[2][0] == "give" and 0 < event[2][4] < 5]
+        self.assertEqual(len(sworn_view(row, tuple(pairs), 0)), 60 + 3 * len(pairs))
+
+    def test_answers_of_rows_of_60_events(self):
+        roster, row, _ = large_sight()
+        for node in range(8):
+            entry_points(row, node)
+            self.assertEqual(pocket_of(roster, row, node) == (), node > 1)
+            for name in (("a",), ("a", "b", "c", "d", "e", "a"), ("a", "z"), ("q",)):
+                walk_view(row, name, 8)
+                may_tell(roster, row, node, name, 8)
+                told(good_ticks, roster, row, node, name, 8)
+        for event in row:
+            if event[2][0] == "send":
+                letter = letter_events(row, event[0])
+                joined_view(row[:30], letter)
+
+    def test_tables_of_400_events(self):
+        for nodes, seed in ((8, 1), (3, 2)):
+            dice = random.Random(seed)
+            roster = ((1, 2),) * nodes
+            row = tuple(event for event, _ in FewGives(dice, roster, nodes, promise=20).grow(400))
+            order = in_turns(dice, row, 0)
+            begun = time.process_time()
+            table = Table(roster, 0)
+            for event in order:
+                self.assertIsNone(table.tell(event))
+                if event[0][0] == 0:
+                    told(table.wait, (), "a")
+                    told(table.good, ("a", "b"), 8)
+                    for give in [one[0] for one in row if one[2][0] == "give"]:
+                        told(table.alive, give)
+                table.live()
+            self.assertLess(time.process_time() - begun, LONG)
+            self.begun = time.process_time()
+
+    def test_custody_of_runs_of_500_events(self):
+        play = Play(random.Random(3), ((1, 3),) * 8, 8, lives=0.01, losses=True)
+        run = play.grow(500)
+        self.assertEqual(len(run), 500)
+        for place in range(0, 501, 20):
+            for term in standing_terms(run, place)[:3]:
+                told(unknown_to_keeper, run, place, term)
 
     def test_130_events_on_the_wire(self):
         dice = random.Random(9)
