@@ -19,7 +19,7 @@ def keeper_rows(events, term):
 def labels_owed(record, term):
     """The labels of a page that bear a first entry, a put or a giving, ascending."""
     labels = {label: True for label in record.bearing.get(term, {})}
-    for give in gives_of(record, term, record.everything()):
+    for give in gives_of(record, term):
         labels[record.event(give)[2][2]] = True
     return sorted(labels)
 
@@ -65,8 +65,9 @@ def bears_on(event, term):
 def unknown_to_keeper(run, place, term):
     """The ids of the puts and givings of a page ahead of a place, not lost, that a keeper there has not seen."""
     record = record_of(events_ahead(run, len(run)))
-    kept = ((1 << place) - 1) & ~all_lost(losses_of(record))
+    kept = record.everything() & ~all_lost(losses_of(record))
     keepers = seen_by_keepers(record, run, place, term)
+    # A page that is put behind the place has nobody ahead of it who has seen it.
     if not record.has_page(term, kept) or keepers == []:
         raise Refused(term)
     unknown = []

@@ -16,7 +16,7 @@ def serves(sight, give):
 
 
 def best_hold(sight, gives):
-    """Of some promises, ascending, the one by which a node is certain longest, with its ticks; None, None for none."""
+    """Of some promises, ascending, the one by which a node is certain longest, and its ticks; None, None for none."""
     best, most = None, NOUGHT
     for give in gives:
         ticks = own_ticks(sight, give) if serves(sight, give) else None
@@ -25,14 +25,20 @@ def best_hold(sight, gives):
     return (None, None) if best is None else (best, most)
 
 
-def hold_on(sight, term, label):
-    """By what a node is certain of a place, None if it isn't, and for how many ticks, None for its own."""
+def hold_by(sight, term, gives):
+    """By what a node is certain of a part of a page with these promises on it, and for how many ticks.
+
+    None and None if it isn't; None for ticks, too, if the page is its own.
+    """
     if sight.is_sole(term):
         return ("own",), None
-    give, ticks = best_hold(sight, sight.promises_on(term, label))
-    if give is None:
-        return None, None
-    return ("promise", give), ticks
+    give, ticks = best_hold(sight, gives)
+    return (None if give is None else ("promise", give)), ticks
+
+
+def hold_on(sight, term, label):
+    """By what a node is certain of a place, and for how many ticks, as hold_by tells it."""
+    return hold_by(sight, term, sight.promises_on(term, label))
 
 
 def told_by(sight, name, most):

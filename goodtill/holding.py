@@ -1,4 +1,4 @@
-"""Promises by a past: which there are, on which places, who holds them, who has sworn them off."""
+"""Promises: on which places they are, and by a past who holds them and who has sworn them off."""
 
 from goodtill.forms import kind_of
 from goodtill.labels import is_inside
@@ -17,25 +17,21 @@ def covers(span, label):
     return is_inside(span[1], label, span[2])
 
 
-def is_put_behind(record, give, label, past):
-    """Whether a past has a put at a label of a promise's page that has the giving in its own past."""
-    place = record.places[give]
+def gives_of(record, term):
+    """The ids of the givings of a page, ascending."""
+    return sorted([record.events[place][0] for place in record.gives.get(term, [])])
+
+
+def is_put_behind(record, give, label):
+    """Whether a put at a label of a promise's page has the giving in its past."""
     puts = record.puts.get((record.event(give)[2][1], label), [])
-    return any([has_bit(past, put) and has_bit(record.pasts[put], place) for put in puts])
+    return any([has_bit(record.pasts[put], record.places[give]) for put in puts])
 
 
-def gives_of(record, term, past):
-    """The ids of the givings of a page that a past has, ascending."""
-    return sorted([event[0] for event in record.those_within(record.gives.get(term, []), past)])
-
-
-def gives_at(record, term, label, past):
-    """The ids of the promises on a place by a past, ascending."""
-    found = []
-    for give in gives_of(record, term, past):
-        if covers(record.span(give), label) and not is_put_behind(record, give, label, past):
-            found.append(give)
-    return found
+def gives_at(record, term, label):
+    """The ids of the promises on a place, ascending."""
+    gives = [give for give in gives_of(record, term) if covers(record.span(give), label)]
+    return [give for give in gives if not is_put_behind(record, give, label)]
 
 
 def holders(record, give, past):

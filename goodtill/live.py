@@ -36,10 +36,7 @@ class LiveWeb:
     def closes_ring(self, event):
         """Whether there would be a positive ring with an event that is the next one of its line."""
         self._widen(event[1][1])
-        heard = self._heard_live(event)
-        if heard is None:
-            return False
-        back = self._ways_out(event).get(heard)
+        back = self._ways_out(event).get(self._heard_live(event))
         return back is not None and back > 0
 
     def take(self, event):

@@ -1,6 +1,6 @@
 """All that a node is certain of."""
 
-from goodtill.finders import best_hold, hold_on
+from goodtill.finders import hold_by, hold_on
 from goodtill.holding import gives_of
 from goodtill.rates import low_of
 from goodtill.sight import sight_of
@@ -16,15 +16,9 @@ def reaches_over(span, low, high):
 
 
 def hold_over(sight, term, low, high):
-    """By what a node is certain of a stretch of a page, None if it isn't, and for how many ticks, None for its own."""
-    if sight.is_sole(term):
-        return ("own",), None
-    gives = [give for give in gives_of(sight.record, term, sight.whole)
-             if reaches_over(sight.record.span(give), low, high)]
-    give, ticks = best_hold(sight, gives)
-    if give is None:
-        return None, None
-    return ("promise", give), ticks
+    """By what a node is certain of a stretch of a page, and for how many ticks, as hold_by tells it."""
+    gives = gives_of(sight.record, term)
+    return hold_by(sight, term, [give for give in gives if reaches_over(sight.record.span(give), low, high)])
 
 
 def spans_of(sight, term):

@@ -26,7 +26,7 @@ def span_of(events, give):
 def gives_on(events, term, label):
     """The ids of the promises on a place, ascending."""
     record = page_record(events, term)
-    return tuple(gives_at(record, term, label, record.everything()))
+    return tuple(gives_at(record, term, label))
 
 
 def holders_of(events, give):

@@ -55,7 +55,6 @@ class Sight:
         self.common = common
         self.left = left
         self.ways = ways
-        self.newest = record.lines[node][-1]
 
     def bounds(self, node):
         """How short and how long a tick of a node's clock can be, as fractions."""
@@ -82,7 +81,7 @@ class Sight:
 
     def promises_on(self, term, label):
         """The ids of the promises on a place of a page, which is there, ascending."""
-        return gives_at(self.record, term, label, self.whole)
+        return gives_at(self.record, term, label)
 
     def keeps(self, term):
         """Whether the node keeps a page, which is there."""

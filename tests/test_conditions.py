@@ -114,6 +114,11 @@ class Alone(unittest.TestCase):
         bad = [((0, 0, 3), (reading, 1), ("tick",)) for reading in (5, 9)] + [((0, 2, 1), (7, 1), ("tick",)), ((0, 3, 0), (7, 1), ("start", (0, 0, 0)))]
         self.case(4, rows.row, bad, [((0, 0, 3), (reading, 1), ("tick",)) for reading in (6, 7, 8)] + [((0, 2, 1), (8, 1), ("tick",))])
 
+    def test_4_the_eldest_life_told_last(self):
+        row = [((0, 2, 0), (5, 1), ("start", None)), ((0, 0, 0), (3, 1), ("start", None))]
+        self.case(4, row, [((0, 2, 1), (4, 1), ("tick",)), ((0, 0, 1), (6, 1), ("tick",))],
+                  [((0, 2, 1), (5, 1), ("tick",)), ((0, 0, 1), (5, 1), ("tick",))])
+
     def test_5_what_is_heard(self):
         rows = Rows()
         for node in (0, 1, 2):

@@ -190,6 +190,16 @@ class Places(unittest.TestCase):
         self.assertEqual([standing_terms(run, place) for place in range(10)], expected)
         self.assertEqual(standing_terms((), 0), ((),))
 
+    def test_terms_ascend(self):
+        rows = Rows()
+        rows.start(0)
+        rows.start(2)
+        deep = rows.put(0, (), "x", page(2))
+        rows.letter(0, 2)
+        high = rows.put(2, deep, "p", page(0))
+        low = rows.put(0, (), "y", page(0))
+        self.assertEqual(standing_terms(rows.run(), len(rows.row)), ((), deep, low, high))
+
     def test_in_the_order_of_the_run(self):
         rows = Rows()
         rows.start(0)

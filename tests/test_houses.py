@@ -71,6 +71,7 @@ class Entries(unittest.TestCase):
         self.assertEqual(entry_points(check_view(row), 0), ((1, 3, 0), (1, 3, 1)))
         row = (((0, 3, 0), (0, 1), ("start", None)),)
         self.assertEqual(entry_points(row, 0), ((0, 3, 0),))
+        self.assertEqual(entry_points(row + (((0, 3, 1), (0, 1), ("tick",)),), 0), ((0, 3, 0),))
 
     def test_lives_of_ones_own(self):
         rows = Rows()
@@ -326,17 +327,21 @@ class Alive(unittest.TestCase):
 
 
 class Changes(unittest.TestCase):
-    def test_broken_ways(self):
+    def deep(self, *ends):
+        """House 0 with two pages, one beneath the other, and a promise on each place of the way to a third one."""
         rows = Rows()
         rows.start(0)
         rows.start(1)
         rows.letter(1, 0)
         one = rows.put(0, (), "p", PAGE)
         two = rows.put(0, one, "q", PAGE)
-        rows.give(0, (), "p", 9, 1)
-        rows.give(0, one, "q", 9, 1)
-        rows.give(0, two, "z", 9, 1)
+        for place, end in zip((((), "p"), (one, "q"), (two, "z")), ends):
+            rows.give(0, *place, end, 1)
         rows.do(0, "send", 1)
+        return rows, one, two
+
+    def test_broken_ways(self):
+        rows, one, two = self.deep(9, 9, 9)
         row = rows.events()
         self.assertEqual(may_put((), row, 0, two, "z"), ("not", ((0, 0, 4), (0, 0, 5), (0, 0, 6))))
         self.assertEqual(put_wait((), row, 0, two, "z"), (9, 1))
@@ -347,16 +352,7 @@ class Changes(unittest.TestCase):
         self.assertEqual(may_put((), row, 0, (), "z"), ("let", ((), "z")))
 
     def test_several_shut_places_the_first_one_let(self):
-        rows = Rows()
-        rows.start(0)
-        rows.start(1)
-        rows.letter(1, 0)
-        one = rows.put(0, (), "p", PAGE)
-        two = rows.put(0, one, "q", PAGE)
-        rows.give(0, (), "p", 9, 1)
-        rows.give(0, one, "q", 5, 1)
-        rows.give(0, two, "z", 7, 1)
-        rows.do(0, "send", 1)
+        rows, one, two = self.deep(9, 5, 7)
         row = rows.events()
         self.assertEqual(may_put((), row, 0, one, "q"), ("not", ((0, 0, 4), (0, 0, 5))))
         self.assertEqual(put_wait((), row, 0, two, "z"), (5, 1))

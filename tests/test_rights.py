@@ -5,8 +5,10 @@ import unittest
 
 from goodtill import custody, finders, houses, pages, pocket, promises, recall, tree
 from goodtill.errors import Refused
+from goodtill.views import view_of
 from tests.slow_rights import Eye, Row, is_page
 from tests.some_houses import some_sight
+from tests.some_rows import in_some_order
 from tests.told import told
 
 ASKED = ("a", "aa", "b", "bb", "c", "zzzzzzzz")
@@ -91,6 +93,30 @@ class Rights(unittest.TestCase):
             for give in gives:
                 self.same(told(houses.why_alive, roster, row, node, give), told(eye.why_alive, give), row, node, give)
         self.assertGreater(min(found.values()), 50)
+
+    def test_neither_the_order_nor_what_the_node_has_not_seen_counts(self):
+        for dice, roster, row, terms, gives in self.rows(40, 4000):
+            turned = in_some_order(dice, row)
+            for term in terms:
+                for label in ASKED[:4]:
+                    for function in (pages.content_of, promises.gives_on, tree.way_to):
+                        self.same(told(function, turned, term, label), told(function, row, term, label))
+                self.same(told(custody.keeper_rows, turned, term), told(custody.keeper_rows, row, term))
+            for node in NODES[:4]:
+                view = view_of(row, node)
+                for other in (turned, view, view_of(turned, node)):
+                    for term in terms:
+                        for label in ASKED[:4]:
+                            for function in (finders.why_certain, houses.may_put, houses.put_wait, recall.left_to_swear):
+                                self.same(told(function, roster, other, node, term, label), told(function, roster, row, node, term, label))
+                            self.same(told(houses.own_end, other, node, term, label), told(houses.own_end, row, node, term, label))
+                        self.same(told(custody.owed_gives, other, node, term), told(custody.owed_gives, row, node, term))
+                    for give in gives:
+                        for function in (promises.ticks_left, promises.is_past, houses.why_alive):
+                            self.same(told(function, roster, other, node, give), told(function, roster, row, node, give))
+                    self.same(told(pocket.pocket_of, roster, other, node), told(pocket.pocket_of, roster, row, node))
+                    self.same(told(finders.may_tell, roster, other, node, ("a", "b"), 2), told(finders.may_tell, roster, row, node, ("a", "b"), 2))
+                    self.same(told(houses.entry_points, other, node), told(houses.entry_points, row, node))
 
     def test_what_nodes_may_tell(self):
         found = {}
