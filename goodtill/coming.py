@@ -1,6 +1,6 @@
 """Which event may come behind the events of a record: the eleven conditions of a view."""
 
-from goodtill.forms import is_event, is_page_put, is_weighty, kind_of, steps_back
+from goodtill.forms import is_event, is_pointer, is_weighty, kind_of, steps_back
 from goodtill.holding import has_give, has_left, holders
 from goodtill.record import has_bit
 
@@ -64,14 +64,17 @@ def keeps_its_page(record, event, past):
     return record.has_page(deed[1], past) and record.keeper_row(deed[1], past)[1] == event[0][0]
 
 
+def would_change(record, term, label, entry, past):
+    """Whether an entry, put at a label of a page, which is there, is no page too deep and not what stands there."""
+    if is_pointer(entry):
+        return record.depths[term] < DEEPEST
+    return record.content(term, label, past)[1] != entry
+
+
 def changes_something(record, event, past):
     """Condition 8: a page is not put too deep, and what stands is not put again."""
     deed = event[2]
-    if deed[0] != "put":
-        return True
-    if is_page_put(event):
-        return record.depths[deed[1]] < DEEPEST
-    return record.content(deed[1], deed[2], past)[1] != deed[3]
+    return deed[0] != "put" or would_change(record, deed[1], deed[2], deed[3], past)
 
 
 def holds_its_promise(record, event, past):

@@ -5,8 +5,8 @@ from goodtill.forms import is_page_put, kind_of
 from goodtill.holding import gives_of
 from goodtill.losses import all_lost, is_torn, losses_of
 from goodtill.pages import page_record
-from goodtill.record import has_bit, record_of
-from goodtill.runs import events_ahead, lost_in
+from goodtill.record import has_bit
+from goodtill.runs import lost_in, record_of_run
 from goodtill.sight import timeless_sight
 
 
@@ -46,14 +46,14 @@ def seen_at(record, run, place):
     return {node: record.pasts[at] for node, at in newest.items()}
 
 
-def seen_by_keepers(record, run, place, term):
-    """What each keeper of a page at a place of a run has seen there, as pasts."""
+def keepers_at(record, run, place, term):
+    """The keepers of a page at a place of a run, with what each has seen there, as pasts."""
     losses = losses_of(record)
-    found = []
+    found = {}
     for node, seen in seen_at(record, run, place).items():
         # By a torn past the puts and hand rows of a page need be no chain.
         if not is_torn(seen, losses) and record.has_page(term, seen) and record.keeper_row(term, seen)[1] == node:
-            found.append(seen)
+            found[node] = seen
     return found
 
 
@@ -64,9 +64,9 @@ def bears_on(event, term):
 
 def unknown_to_keeper(run, place, term):
     """The ids of the puts and givings of a page ahead of a place, not lost, that a keeper there has not seen."""
-    record = record_of(events_ahead(run, len(run)))
+    record = record_of_run(run)
     kept = record.everything() & ~all_lost(losses_of(record))
-    keepers = seen_by_keepers(record, run, place, term)
+    keepers = list(keepers_at(record, run, place, term).values())
     # A page that is put behind the place has nobody ahead of it who has seen it.
     if not record.has_page(term, kept) or keepers == []:
         raise Refused(term)

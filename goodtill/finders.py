@@ -2,8 +2,8 @@
 
 from goodtill.errors import Refused
 from goodtill.holding import has_sworn_itself, holders
-from goodtill.promises import NOUGHT, own_ticks
-from goodtill.rates import is_below, low_of
+from goodtill.promises import own_ticks
+from goodtill.rates import NOUGHT, is_below, low_of
 from goodtill.sight import sight_of
 from goodtill.tree import walk_view
 

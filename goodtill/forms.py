@@ -124,6 +124,7 @@ CHECKS = {
     "id": is_id,
     "term": is_term,
     "most": is_most,
+    "count": is_count,
     "entry": is_entry,
     "answer": is_answer,
 }
@@ -141,14 +142,16 @@ def is_part(part, value):
     return check(value)
 
 
+def are_parts(parts, values):
+    """Whether some values are just these parts of a deed, in their order."""
+    return len(values) == len(parts) and all([is_part(part, value) for part, value in zip(parts, values)])
+
+
 def is_deed(value):
     """Whether a value is one of the eleven deeds."""
     if not isinstance(value, tuple) or len(value) == 0 or value[0] not in KINDS:
         return False
-    parts = PARTS[value[0]]
-    if len(value) != len(parts) + 1:
-        return False
-    return all([is_part(part, entry) for part, entry in zip(parts, value[1:])])
+    return are_parts(PARTS[value[0]], value[1:])
 
 
 def event_fault(value):

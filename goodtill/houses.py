@@ -2,8 +2,8 @@
 
 from goodtill.errors import Refused
 from goodtill.holding import has_left, holders
-from goodtill.promises import NOUGHT, time_left
-from goodtill.rates import is_below, low_of, minus, over, plus, times, top_of
+from goodtill.promises import time_left
+from goodtill.rates import NOUGHT, is_below, low_of, minus, over, plus, times, top_of
 from goodtill.sight import sight_of, timeless_sight
 from goodtill.tree import is_cut_off, way_down
 
@@ -111,6 +111,13 @@ def ticks_to_put(sight, term, label):
     return over(low_of(longest), sight.bounds(sight.node)[0])
 
 
+def ticks_promised(sight, term, label):
+    """By how much the last end that a node has promised itself on a place is above its reading, nought if it is not."""
+    own = [give for give in sight.promises_on(term, label) if give[0] == sight.node]
+    ends = [minus(sight.record.event(give)[2][3], sight.reading()) for give in own]
+    return top_of([NOUGHT] + ends)
+
+
 def entry_points(events, node):
     """The ids of the events at which a way from beyond a node's view may lead into it, ascending."""
     return tuple(entries_by(timeless_sight(events, node)))
@@ -148,6 +155,4 @@ def own_end(events, node, term, label):
     """By how much the last end that a node has promised itself on a place is above its reading, nought if it is not."""
     sight = timeless_sight(events, node)
     need_house(sight, term, label)
-    own = [give for give in sight.promises_on(term, label) if give[0] == node]
-    ends = [minus(sight.record.event(give)[2][3], sight.reading()) for give in own]
-    return top_of([NOUGHT] + ends)
+    return ticks_promised(sight, term, label)

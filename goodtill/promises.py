@@ -3,11 +3,9 @@
 from goodtill.errors import Refused
 from goodtill.holding import gives_at, has_give, has_left, holders
 from goodtill.pages import page_record
-from goodtill.rates import is_below, minus, over, plus, times
+from goodtill.rates import NOUGHT, is_below, minus, over, plus, times
 from goodtill.record import record_of
 from goodtill.sight import sight_of
-
-NOUGHT = (0, 1)
 
 
 def give_record(events, give):

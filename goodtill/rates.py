@@ -4,6 +4,9 @@ from math import gcd
 
 from goodtill.errors import BadFraction, BadText, Refused
 
+NOUGHT = (0, 1)
+ONE = (1, 1)
+
 # Which characters may come in each state of a fraction's text, and to which state they lead.
 STEPS = {
     "begin": (("-", "minus"), ("0", "nought"), ("123456789", "above")),

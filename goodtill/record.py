@@ -140,13 +140,17 @@ class Record:
         rows = [(label, self.content(term, label, past)[1]) for label in sorted(self.bearing.get(term, {}))]
         return [row for row in rows if row[1] is not None]
 
+    def cover(self, term, label, past):
+        """What a promise on a label of a page, which is there, covers if it is given by a past."""
+        labels = [first for first, _ in self.standing(term, past)]
+        return ("label", label) if label in labels else ("gap",) + gap_of(labels, label)
+
     def span(self, give):
         """What a promise covers by the past of its giving, which is in the row."""
         if give not in self.spans:
             place = self.places[give]
             _, term, label, _, _ = self.events[place][2]
-            labels = [first for first, _ in self.standing(term, self.pasts[place])]
-            self.spans[give] = ("label", label) if label in labels else ("gap",) + gap_of(labels, label)
+            self.spans[give] = self.cover(term, label, self.pasts[place])
         return self.spans[give]
 
 

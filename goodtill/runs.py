@@ -74,9 +74,23 @@ def check_run(roster, run):
     return run
 
 
+def is_run(roster, run):
+    """Whether any value is a run."""
+    try:
+        check_run(roster, run)
+    except BadRun:
+        return False
+    return True
+
+
 def events_ahead(run, place):
     """The events ahead of a place of a run."""
     return tuple([event for event, _ in run[:place]])
+
+
+def record_of_run(run):
+    """The record of all events of a run."""
+    return record_of(events_ahead(run, len(run)))
 
 
 def seen_by(run, place, node):
@@ -103,7 +117,7 @@ def are_alike(one, two, event_id):
 
 def lost_in(run):
     """The lost weighty deeds of a run, as a past."""
-    return all_lost(losses_of(record_of(events_ahead(run, len(run)))))
+    return all_lost(losses_of(record_of_run(run)))
 
 
 def lost_puts(run):
@@ -113,11 +127,16 @@ def lost_puts(run):
     return tuple(sorted([event[0] for event in events if kind_of(event) == "put"]))
 
 
-def walk_truth(run, place, name, most):
-    """The answer of a walk by what is so at a place of a run."""
+def walk_so(run, place, name, most):
+    """The answer of a walk by what is so at a place of a run, and the places that it looks at."""
     lost = lost_in(run)
     kept = [event for at, (event, _) in enumerate(run[:place]) if not has_bit(lost, at)]
-    return walk_by(contents_of(kept), name, most)[0]
+    return walk_by(contents_of(kept), name, most)
+
+
+def walk_truth(run, place, name, most):
+    """The answer of a walk by what is so at a place of a run."""
+    return walk_so(run, place, name, most)[0]
 
 
 def is_stale(run, place):

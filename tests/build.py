@@ -19,7 +19,7 @@ class Rows:
             life = max(event[0][1] for event in own) if life is None else life
             number = max(event[0][2] for event in own if event[0][1] == life) + 1
         if at is None:
-            at = max((event for event in own if event[0] <= (node, life, number)), key=lambda one: one[0])[1][0] if own else 0
+            at = max((event for event in own if event[0] <= (node, life, number)), key=lambda one: one[0])[1] if own else 0
         return ((node, life, number), at if isinstance(at, tuple) else (at, 1), deed)
 
     def do(self, node, *deed, at=None, life=None, now=None):
@@ -47,3 +47,20 @@ class Rows:
 
     def run(self):
         return tuple(zip(self.row, self.instants))
+
+
+def chain(deep, houses):
+    """A run in which each page of a name of so many labels is put and, in turn, kept by one of some houses."""
+    rows = Rows()
+    term, house = (), 0
+    rows.start(0)
+    for at in range(deep - 1):
+        to = houses[at % len(houses)]
+        made = rows.put(house, term, "a", ("page", to, ()))
+        if to != house:
+            if not [event for event in rows.row if event[0][0] == to]:
+                rows.start(to)
+            rows.letter(house, to)
+        term, house = made, to
+    rows.put(house, term, "a", ("value", 7))
+    return rows

@@ -366,6 +366,57 @@ raises Refused((1, 0, 1))
 raises Refused(0)
 """
 
+CHAPTER_21_JOURNALS = r"""
+>>> from goodtill.journal import Journal, read_journal
+>>> journal = Journal(5)
+>>> [journal.write(((5, 0, 0), (0, 1), ("start", None))), journal.flush(), journal.write(((4, 0, 0), (0, 1), ("start", None)))]
+[None, None, None]
+>>> [journal.write(((4, 0, 1), (0, 1), ("send", 5))), journal.write(((5, 0, 1), (1, 2), ("hear", (4, 0, 1)))), journal.cuts()]
+[None, None, (1, 4)]
+>>> journal.write(((5, 0, 3), (1, 2), ("hear", (4, 0, 9))))
+raises Refused((5, 0, 2))
+>>> journal.text()
+'node 5\n05000000010000 10\n04000000010000 9\n04000100010205 59\n050001020203040001 81\n'
+>>> read_journal(journal.text()[:-1])
+(((5, 0, 0), (0, 1), ('start', None)),)
+"""
+
+CHAPTER_22 = r"""
+>>> from goodtill.asking import asked_run, is_fresh, letters_heard, way_keepers
+>>> roster = ((1, 2), (1, 1))
+>>> zero = (((0, 0, 0), (0, 1), ("start", None)), ((0, 0, 1), (0, 1), ("put", (), "a", ("page", 1, ()))), ((0, 0, 2), (0, 1), ("send", 1)))
+>>> one = (((1, 0, 0), (5, 1), ("start", None)), ((1, 0, 1), (5, 1), ("hear", (0, 0, 2))))
+>>> run = tuple([(event, (0, 1)) for event in zero + one]) + ((((1, 0, 2), (9, 1), ("put", (0, 0, 1), "b", ("value", 7))), (4, 1)),)
+>>> way_keepers(run, 2, ("a", "b"), 0), way_keepers(run, 1, ("a", "b"), 0), way_keepers(run[:4], 2, ("a", "b"), 0)
+((0, 1), (0,), (0,))
+>>> is_fresh(run, 2, ("a", "b"), 0), is_fresh(run, 1, ("a", "b"), 0), is_fresh(run[:4], 2, ("a", "b"), 0), is_fresh(run[:4], 2, ("c",), 0)
+(True, False, False, True)
+>>> letters_heard(run, 0), letters_heard(run, 3)
+(1, 0)
+>>> asked = asked_run(roster, run, 2, ("a", "b"), 0)
+>>> asked[:6] == run, letters_heard(asked, 6), asked[-1][0][2]
+(True, 3, ('tell', ('a', 'b'), 0, (('value', 7), ())))
+>>> asked_run(roster, run, 1, ("a", "b"), 0)
+raises Refused(('a', 'b'))
+"""
+
+CHAPTER_23 = r"""
+>>> from goodtill.fields import Field
+>>> field = Field(((1, 1), (1, 2)), (10, 1))
+>>> [field.do(deed) for deed in (("wish", 0, (), "a", ("value", 5)), ("ask", 1, ("a",), 0), ("bring", 0), ("time", (2, 1)))]
+[None, None, None, None]
+>>> field.under_way(), [event[2][0] for event, instant in field.run()]
+((((0, 0, 5), 1),), ['start', 'tick', 'put', 'start', 'ask', 'send', 'hear', 'give', 'send'])
+>>> [field.do(deed) for deed in (("clock", 1, (3, 2)), ("time", (1, 1)), ("bring", 0), ("wish", 0, (), "a", None))]
+[None, None, None, None]
+>>> field.run()[-2], field.done()[1]
+((((1, 0, 4), (8, 3), ('tell', ('a',), 0, (('value', 5), ()))), (3, 1)), (('wish', 0, (), 'a', None), (3, 1), None))
+>>> field.do(("time", (7, 1))), field.do(("ask", 0, ("a",), 0)), field.done()[1][2], field.run()[-1][0][2]
+(None, None, (10, 1), ('tell', ('a',), 0, (('nothing',), ())))
+>>> field.do(("bring", 0))
+raises BadDeed(0)
+"""
+
 
 class Examples(unittest.TestCase):
     def test_chapter_3(self):
@@ -412,6 +463,15 @@ class Examples(unittest.TestCase):
 
     def test_chapter_20(self):
         self.assertEqual(run_examples(self, CHAPTER_20), 18)
+
+    def test_chapter_21_journals(self):
+        self.assertEqual(run_examples(self, CHAPTER_21_JOURNALS), 7)
+
+    def test_chapter_22(self):
+        self.assertEqual(run_examples(self, CHAPTER_22), 11)
+
+    def test_chapter_23(self):
+        self.assertEqual(run_examples(self, CHAPTER_23), 8)
 
 
 if __name__ == "__main__":

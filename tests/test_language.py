@@ -228,6 +228,13 @@ class Interface(unittest.TestCase):
         "tables": "Table.__init__(self,roster,node) Table.tell(self,event) Table.live(self) Table.live_common(self) "
                   "Table.way(self,x,y) Table.way_common(self,x,y) Table.stands(self,give) Table.past(self,give) "
                   "Table.alive(self,give) Table.wait(self,term,label) Table.good(self,name,most)",
+        "journal": "Journal.__init__(self,node) Journal.write(self,event) Journal.flush(self) Journal.cuts(self) "
+                   "Journal.text(self) read_journal(text)",
+        "asking": "way_keepers(run,node,name,most) is_fresh(run,node,name,most) letters_heard(run,place) "
+                  "asked_run(roster,run,node,name,most)",
+        "slipjudge": "slip_serves(roster,events,node,name,most,answer,run)",
+        "hastejudge": "haste_serves(roster,events,node,term,label,entry,run)",
+        "fields": "Field.__init__(self,roster,length) Field.run(self) Field.under_way(self) Field.done(self) Field.do(self,deed)",
     }
 
     def test_names_and_arguments(self):

@@ -5,23 +5,29 @@ import time
 import unittest
 from fractions import Fraction
 
+from goodtill.asking import asked_run, is_fresh, letters_heard, way_keepers
 from goodtill.carry import joined_view, letter_events
 from goodtill.custody import keeper_rows, owed_gives, standing_terms, unknown_to_keeper
+from goodtill.fields import Field
 from goodtill.finders import good_ticks, may_tell, why_certain
 from goodtill.fits import earliest_fit, fit_fault, latest_fit, met_wishes, mixed_fit
 from goodtill.houses import entry_points, may_put, own_end, put_wait, shut_places, why_alive
+from goodtill.hastejudge import haste_serves
+from goodtill.journal import Journal, read_journal
+from goodtill.judging import has_right
 from goodtill.pages import page_rows
 from goodtill.pocket import pocket_of
 from goodtill.promises import does_stand, gives_on, has_sworn, holders_of, is_past, span_of, ticks_left
 from goodtill.recall import fewest_swears, left_to_swear, sworn_view
-from goodtill.runs import World, are_alike, check_run, is_stale, lost_puts, seen_by, walk_truth
+from goodtill.runs import World, are_alike, check_run, is_stale, lost_puts, record_of_run, seen_by, walk_truth
+from goodtill.slipjudge import slip_serves
 from goodtill.tables import Table
 from goodtill.tree import walk_view
 from goodtill.views import check_view, common_view, is_behind, life_gaps, past_of, view_of
 from goodtill.webs import positive_ring, ring_serves, ways_from, ways_to, web_of
 from goodtill.wire import decode_stream, encode_stream, pack_events, unpack_events
 from tests import some_events
-from tests.build import Rows
+from tests.build import Rows, chain
 from tests.slow_webs import pair
 from tests.some_houses import Play
 from tests.test_tables import in_turns
@@ -254,6 +260,85 @@ class Sizes(unittest.TestCase):
         for place in range(0, 501, 20):
             for term in standing_terms(run, place)[:3]:
                 told(unknown_to_keeper, run, place, term)
+
+    def test_journals_of_60_rows(self):
+        dice = random.Random(12)
+        journal, rows = Journal(3), []
+        for number in range(60):
+            kind = dice.choice(("put", "give", "tell", "tick", "send")) if number else "start"
+            deed = some_events.deed(dice, kind) if number else ("start", None)
+            rows.append(((3, 10 ** 7, number), some_events.fraction(dice), deed))
+            journal.write(rows[-1])
+        self.assertEqual(read_journal(journal.text()), tuple(rows))
+        one = f"node 3\n00ff{'ff' * 9000}7f00000101 1\n"
+        for text in (one, "node 3\n" + "a" * 39000 + " 5\n", "\n" * 40000, "node 3\n" + " " * 39000 + "\n", "x" * 40000):
+            told(read_journal, text)
+
+    def test_asking_behind_370_events(self):
+        dice = random.Random(14)
+        rows = chain(6, (20, 21, 22, 23, 24))
+        for label in "bcdefg":
+            rows.put(24, rows.row[-1][2][1], label, ("value", 10 ** 10))
+        for node in range(1, 8):
+            rows.start(node, at=pair(Fraction(dice.randint(1, 10 ** 17), 10 ** 16 - node)), now=pair(Fraction(1, 10 ** 16 - 1)))
+        while len(rows.row) < 370:
+            rows.do(dice.randint(1, 7), *dice.choice((("tick",), ("send", 9), ("ask", ("a",), 0), ("send", 20))))
+        rows.instants[-1] = pair(Fraction(10 ** 34, 10 ** 16 - 3))
+        rows.row[-1] = ((25, 0, 0), (0, 1), ("start", None))
+        run, name, roster = rows.run(), ("a",) * 6, ((1, 999),) * 32
+        self.assertIs(check_run(roster, run), run)
+        self.assertIs(is_fresh(run, 30, name, 8), True)
+        self.assertEqual(way_keepers(run, 30, name, 8), (0, 20, 21, 22, 23, 24))
+        asked = asked_run(roster, run, 30, name, 8)
+        self.assertEqual((letters_heard(asked, len(run)), check_run(roster, asked)), (7, asked))
+        for event, _ in asked:
+            self.assertTrue(event[1][0] <= 10 ** 70 and event[1][1] <= 10 ** 60)
+
+    def test_judging_runs_of_500_events(self):
+        roster, run = large_run(5, 500, 8, 10 ** 4)
+        events = tuple(event for event, _ in run)
+        record = record_of_run(run)
+        for at in range(0, 500, 25):
+            seen = seen_by(run, at + 1, run[at][0][0][0])
+            if len(seen) < 200:
+                has_right(roster, record, run[at][0])
+        last = run[-1][0]
+        slip_serves(roster, events[:-1], last[0][0], ("a",), 8, (("value", 499), ()), run)
+        haste_serves(roster, events[:60], 0, (), "a", ("value", 5), run)
+
+    def test_judging_a_run_of_many_deeds_outside(self):
+        """A node alone, then 480 events of others of which each is a put or a telling that has its right."""
+        rows = Rows()
+        rows.start(0, at=0)
+        rows.put(0, (), "a", ("value", 0))
+        rows.start(1, at=0)
+        rows.letter(1, 0)
+        for label in "bcdefghi":
+            rows.give(0, (), label, 10 ** 9, 1)
+        rows.letter(0, 1)
+        view = rows.events()
+        for number in range(240):
+            rows.put(0, (), "a", ("value", number + 1))
+            rows.do(0, "tell", ("a",), 0, (("value", number + 1), ()))
+        rows.do(1, "tell", ("a",), 0, (("value", 0), ()))
+        self.assertIs(slip_serves((), view, 1, ("a",), 0, (("value", 0), ()), rows.run()), True)
+
+    def test_fields_with_many_wishes_and_asks(self):
+        roster = ((1, 1000),) * 8
+        field = Field(roster, (10 ** 6, 7))
+        for label in "abcde":
+            field.do(("wish", 0, (), label, ("value", 1)))
+        for node in (1, 2, 3):
+            for label in "abcd":
+                field.do(("ask", node, (label,), 8))
+        for _ in range(3):
+            field.do(("bring", 0))
+        for number in range(30):
+            told(field.do, ("wish", 0, (), "abcde"[number % 5], ("value", 2 + number)))
+        field.do(("time", (10 ** 7 + 1, 10 ** 3)))
+        for _ in range(6):
+            field.do(("double", 0))
+        self.assertEqual(len(field.done()), 35)
 
     def test_130_events_on_the_wire(self):
         dice = random.Random(9)
