@@ -19,6 +19,15 @@ def check_view(value):
     return value
 
 
+def is_view(value):
+    """Whether any value is a view."""
+    try:
+        check_view(value)
+    except BadView:
+        return False
+    return True
+
+
 def past_of(events, event_id):
     """The events of an event's past, in the order of the row."""
     return past_in(events, event_id)

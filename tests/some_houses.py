@@ -159,6 +159,22 @@ class Play:
         return ("put", term, label, entry)
 
 
+def with_lives_moved(row, moves):
+    """A row with the lives of some nodes greater by what is told, so that some start late with nothing ahead."""
+
+    def moved(event_id):
+        return (event_id[0], event_id[1] + moves.get(event_id[0], 0), event_id[2])
+
+    def deed_moved(deed):
+        if deed[0] in ("start", "hear", "swear", "pass", "put", "give", "hand"):
+            return deed[:1] + (deed[1] and moved(deed[1]),) + deed[2:]
+        if deed[0] == "tell" and deed[3][0][0] == "page" and deed[3][0][2]:
+            return deed[:3] + ((deed[3][0][:2] + (moved(deed[3][0][2]),), deed[3][1]),)
+        return deed
+
+    return tuple((moved(event_id), reading, deed_moved(deed)) for event_id, reading, deed in row)
+
+
 def some_clocks(dice, nodes):
     """Some bounds for so many nodes."""
     pairs = []
@@ -173,3 +189,11 @@ def some_sight(dice, many, nodes, lives=0.0, **more):
     roster = some_clocks(dice, nodes)
     run = Play(dice, roster, nodes, lives, **more).grow(many)
     return roster, tuple(event for event, _ in run)
+
+
+def some_late_sight(dice, many, nodes, lives=0.0):
+    """Like some_sight; often some nodes have later lives alone."""
+    roster, row = some_sight(dice, many, nodes, lives)
+    if dice.random() < 0.5:
+        return roster, row
+    return roster, with_lives_moved(row, {node: dice.choice((0, 1, 2)) for node in range(nodes)})

@@ -296,6 +296,56 @@ raises Refused((0, 0, 4))
 ('not', ((0, 0, 3),))
 """
 
+CHAPTER_16 = r"""
+>>> from goodtill.slipjudge import slip_serves
+>>> from goodtill.slips import slip_run
+>>> roster = ((1, 1), (1, 2))
+>>> answer = (("value", 5), ())
+>>> asked = (((0, 0, 0), (0, 1), ("start", None)), ((0, 0, 1), (0, 1), ("put", (), "a", ("value", 5))), ((1, 0, 0), (0, 1), ("start", None)), ((1, 0, 1), (0, 1), ("send", 0)))
+>>> heard = asked + (((0, 0, 2), (0, 1), ("hear", (1, 0, 1))), ((0, 0, 3), (0, 1), ("give", (), "a", (10, 1), 1)), ((0, 0, 4), (0, 1), ("send", 1)), ((1, 0, 2), (2, 1), ("hear", (0, 0, 4))))
+>>> late = heard + (((1, 0, 3), (5, 1), ("tick",)),)
+>>> slip_serves(roster, late, 1, ("a",), 0, answer, slip_run(roster, late, 1, ("a",), 0, answer))
+True
+>>> slip_run(roster, heard, 1, ("a",), 0, answer)
+raises Refused((('value', 5), ()))
+>>> slip_run(roster, late, 1, ("a",), 0, ("value", 5))
+raises Refused(('value', 5))
+>>> slip_run(roster, late, 3, ("a",), 0, answer)
+raises Refused(3)
+>>> instants = ((0, 1), (0, 1), (0, 1), (0, 1), (0, 1), (0, 1), (0, 1), (4, 1), (10, 1))
+>>> taken = tuple(zip(late, instants)) + ((((0, 0, 5), (10, 1), ("put", (), "a", None)), (10, 1)),)
+>>> slip_serves(roster, late, 1, ("a",), 0, answer, taken + ((((1, 0, 4), (5, 1), ("tell", ("a",), 0, answer)), (10, 1)),))
+True
+>>> slip_serves(roster, late, 1, ("a",), 0, answer, taken + ((((1, 0, 4), (6, 1), ("tell", ("a",), 0, answer)), (12, 1)),))
+False
+"""
+
+CHAPTER_17 = r"""
+>>> from goodtill.hastejudge import haste_serves
+>>> from goodtill.hastes import haste_run
+>>> roster = ((1, 1), (1, 2))
+>>> given = (((0, 0, 0), (0, 1), ("start", None)), ((0, 0, 1), (0, 1), ("put", (), "a", ("value", 5))), ((1, 0, 0), (0, 1), ("start", None)), ((1, 0, 1), (0, 1), ("send", 0)), ((0, 0, 2), (0, 1), ("hear", (1, 0, 1))), ((0, 0, 3), (0, 1), ("give", (), "a", (10, 1), 1)), ((0, 0, 4), (0, 1), ("send", 1)))
+>>> waited = given + (((0, 0, 5), (9, 1), ("tick",)),)
+>>> haste_serves(roster, waited, 0, (), "a", ("value", 6), haste_run(roster, waited, 0, (), "a", ("value", 6)))
+True
+>>> haste_run(roster, waited, 2, (0, 0, 3), "a", None)
+raises Refused(2)
+>>> haste_run(roster, waited, 0, (0, 0, 3), "a", None)
+raises Refused((0, 0, 3))
+>>> haste_run(roster, waited, 1, (), "a", None)
+raises Refused(((), 'a'))
+>>> haste_run(roster, waited, 0, (), "b", None)
+raises Refused(((), 'b'))
+>>> haste_run(roster, waited, 0, (), "a", ("value", 5))
+raises Refused(('value', 5))
+>>> instants = ((0, 1), (0, 1), (0, 1), (0, 1), (0, 1), (0, 1), (0, 1), (9, 1))
+>>> taken = tuple(zip(waited, instants)) + ((((0, 0, 6), (9, 1), ("put", (), "a", None)), (9, 1)), (((1, 0, 2), (9, 2), ("hear", (0, 0, 4))), (9, 1)))
+>>> haste_serves(roster, waited, 0, (), "a", None, taken + ((((1, 0, 3), (9, 2), ("tell", ("a",), 0, (("value", 5), ()))), (9, 1)),))
+True
+>>> haste_serves(roster, waited, 0, (), "a", None, taken + ((((1, 0, 3), (5, 1), ("tell", ("a",), 0, (("value", 5), ()))), (10, 1)),))
+False
+"""
+
 CHAPTER_18 = r"""
 >>> from goodtill.houses import may_put, put_wait
 >>> from goodtill.recall import fewest_swears, left_to_swear, sworn_view
@@ -381,6 +431,27 @@ raises Refused((5, 0, 2))
 (((5, 0, 0), (0, 1), ('start', None)),)
 """
 
+CHAPTER_21_STOPS = r"""
+>>> from goodtill.stops import Keeper, harm_of, needed_flush, stop_run, stop_serves
+>>> roster = ((1, 1), (1, 2))
+>>> zero = (((0, 0, 0), (0, 1), ("start", None)), ((0, 0, 1), (0, 1), ("put", (), "a", ("value", 5))), ((0, 0, 2), (0, 1), ("give", (), "a", (10, 1), 1)))
+>>> told = ("tell", ("a",), 0, (("value", 5), ()))
+>>> [needed_flush(roster, zero, 0, flushed, ("send", 1)) for flushed in (None, (0, 0, 2))], [needed_flush(roster, zero, 0, flushed, told) for flushed in (None, (0, 0, 1))]
+([(0, 0, 2), None], [(0, 0, 1), None])
+>>> needed_flush(roster, zero, 0, (0, 0, 3), told)
+raises Refused((0, 0, 3))
+>>> harm_of(stop_run(roster, zero, 0, (0, 0, 0), told))[0], harm_of(stop_run(roster, zero, 0, (0, 0, 1), ("send", 1)))[0]
+('stale', 'torn')
+>>> run = stop_run(roster, zero, 0, (0, 0, 0), told)
+>>> stop_serves(roster, zero, 0, (0, 0, 0), told, run), stop_serves(roster, zero, 0, (0, 0, 0), ("send", 1), run)
+(True, False)
+>>> keeper = Keeper(roster, 0)
+>>> keeper.start((0, 1)), keeper.do(((0, 0, 1), (1, 1), ("put", (), "a", ("value", 5))), ()), keeper.cuts()
+(((0, 0, 0), (0, 1), ('start', None)), False, (0, 2))
+>>> keeper.do(((0, 0, 2), (1, 1), ("send", 1)), ()), keeper.cuts(), keeper.stop(2), keeper.start((3, 2)), keeper.cuts()
+(True, (2, 3), None, ((0, 1, 0), (3, 2), ('start', (0, 0, 1))), (2, 3))
+"""
+
 CHAPTER_22 = r"""
 >>> from goodtill.asking import asked_run, is_fresh, letters_heard, way_keepers
 >>> roster = ((1, 2), (1, 1))
@@ -415,6 +486,56 @@ CHAPTER_23 = r"""
 (None, None, (10, 1), ('tell', ('a',), 0, (('nothing',), ())))
 >>> field.do(("bring", 0))
 raises BadDeed(0)
+"""
+
+CHAPTER_24 = r"""
+>>> from goodtill.runs import is_stale
+>>> from goodtill.whole import whole_meter, wider_run
+>>> roster = ((1, 1), (1, 2))
+>>> asked = (((0, 0, 0), (0, 1), ("start", None)), ((0, 0, 1), (0, 1), ("put", (), "a", ("value", 5))), ((1, 0, 0), (0, 1), ("start", None)), ((1, 0, 1), (0, 1), ("send", 0)))
+>>> given = asked + (((0, 0, 2), (0, 1), ("hear", (1, 0, 1))), ((0, 0, 3), (0, 1), ("give", (), "a", (10, 1), 1)), ((0, 0, 4), (0, 1), ("send", 1)))
+>>> heard = given + (((1, 0, 2), (2, 1), ("hear", (0, 0, 4))),)
+>>> late = heard + (((1, 0, 3), (5, 1), ("tick",)),)
+>>> run = tuple(zip(late, ((0, 1),) * 7 + ((2, 1), (8, 1))))
+>>> [[(node, [row[1][0] for row in tells], [row[1][0] for row in puts]) for node, tells, puts in whole_meter(roster, run, place, (("a",), ("b", "c")), 0)] for place in (2, 8, 9)]
+[[(0, ['told', 'told'], ['let'])], [(0, ['told', 'told'], ['haste']), (1, ['told', 'slip'], [])], [(0, ['told', 'told'], ['haste']), (1, ['slip', 'slip'], [])]]
+>>> tell = ("tell", ("a",), 0, (("value", 5), ()))
+>>> more = wider_run(roster, late, 1, tell)
+>>> wider_run(roster, heard, 1, tell), more[-1][0][0], more[-1][0][2] == tell, is_stale(more, len(more) - 1)
+(None, (1, 0, 4), True, True)
+>>> wider_run(roster, given, 0, ("put", (), "b", ("value", 5)))
+None
+>>> wider_run(roster, given, 0, ("put", (), "a", ("value", 5)))
+raises Refused(('value', 5))
+>>> wider_run(roster, given, 1, ("put", (), "b", None))
+raises Refused(((), 'b'))
+>>> wider_run(roster, given, 1, ("tick",))
+raises Refused(('tick',))
+"""
+
+CHAPTER_25 = r"""
+>>> from goodtill.desk import Desk
+>>> desk = Desk()
+>>> [desk.say(line) for line in ("roster 1-1 1-2", "start 0.0.0 0 none", "put 0.0.1 0 root a value 5", "start 1.0.0 0 none", "send 1.0.1 0 0")]
+['0 events, 0 laid', '1 events, 0 laid', '2 events, 0 laid', '3 events, 0 laid', '4 events, 0 laid']
+>>> [desk.say(line) for line in ("hear 0.0.2 0 1.0.1", "give 0.0.3 0 root a 10 1", "send 0.0.4 0 1", "hear 1.0.2 2 0.0.4")]
+['5 events, 0 laid', '6 events, 0 laid', '7 events, 0 laid', '8 events, 0 laid']
+>>> [desk.say(line) for line in ("told 1 a 0", "good 1 a 0", "left 1 0.0.3", "told 1 b.c 0", "why 0 root a", "pocket 1")]
+['told value 5', '3', '3', 'not root b', 'own', '. label a value 5 3']
+>>> [desk.say(line) for line in ("may 0 root a", "wait 0 root a", "alive 0 0.0.3", "way 1.0.2 0.0.4", "may 1 root a", "content root b")]
+['not 0.0.3', '10', 'own 1.0.1', '-4', 'refused', 'root none']
+>>> [desk.say(line) for line in ("haste 0 root a none", "judge haste 0 root a none", "judge haste 0 root a value 6", "check")]
+['laid', 'yes', 'no', 'run']
+>>> [desk.say(line) for line in ("undo", "undo", "told 1 a 0", "tick 1.0.2 5/2", "event 7", "hear 0.0.5 1 1.0.2", "slip 0 a 0 value 5")]
+['8 events, 0 laid', '7 events, 0 laid', 'not root a', '8 events, 0 laid', 'tick 1.0.2 5/2', 'refused', 'refused']
+>>> [desk.say(line) for line in ("lay -7/2 put 9.2.0 0 root q page 3 a value 1 b name x.y", "show 0", "check", "harm", "clear")]
+['8 events, 1 laid', 'lay -7/2 put 9.2.0 0 root q page 3 a value 1 b name x.y', '0', 'refused', '8 events, 0 laid']
+>>> desk.say("told 1 a 9")
+raises BadText(3)
+>>> desk.say("give 0.0.5 0 root a")
+raises BadText(5)
+>>> desk.say("put 0.0.5 0 root a page 3 b value 1 a value 2")
+raises BadText(10)
 """
 
 
@@ -455,6 +576,12 @@ class Examples(unittest.TestCase):
     def test_chapter_15(self):
         self.assertEqual(run_examples(self, CHAPTER_15), 15)
 
+    def test_chapter_16(self):
+        self.assertEqual(run_examples(self, CHAPTER_16), 15)
+
+    def test_chapter_17(self):
+        self.assertEqual(run_examples(self, CHAPTER_17), 15)
+
     def test_chapter_18(self):
         self.assertEqual(run_examples(self, CHAPTER_18), 14)
 
@@ -467,11 +594,20 @@ class Examples(unittest.TestCase):
     def test_chapter_21_journals(self):
         self.assertEqual(run_examples(self, CHAPTER_21_JOURNALS), 7)
 
+    def test_chapter_21_stops(self):
+        self.assertEqual(run_examples(self, CHAPTER_21_STOPS), 12)
+
     def test_chapter_22(self):
         self.assertEqual(run_examples(self, CHAPTER_22), 11)
 
     def test_chapter_23(self):
         self.assertEqual(run_examples(self, CHAPTER_23), 8)
+
+    def test_chapter_24(self):
+        self.assertEqual(run_examples(self, CHAPTER_24), 16)
+
+    def test_chapter_25(self):
+        self.assertEqual(run_examples(self, CHAPTER_25), 12)
 
 
 if __name__ == "__main__":

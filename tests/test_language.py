@@ -234,6 +234,13 @@ class Interface(unittest.TestCase):
                   "asked_run(roster,run,node,name,most)",
         "slipjudge": "slip_serves(roster,events,node,name,most,answer,run)",
         "hastejudge": "haste_serves(roster,events,node,term,label,entry,run)",
+        "slips": "slip_run(roster,events,node,name,most,answer)",
+        "hastes": "haste_run(roster,events,node,term,label,entry)",
+        "stops": "needed_flush(roster,events,node,flushed,deed) harm_of(run) stop_run(roster,events,node,flushed,deed) "
+                 "stop_serves(roster,events,node,flushed,deed,run) Keeper.__init__(self,roster,node) Keeper.start(self,reading) "
+                 "Keeper.do(self,event,letter) Keeper.cuts(self) Keeper.stop(self,rows) Keeper.view(self)",
+        "whole": "whole_meter(roster,run,place,names,most) wider_run(roster,events,node,deed)",
+        "desk": "Desk.__init__(self) Desk.say(self,line)",
         "fields": "Field.__init__(self,roster,length) Field.run(self) Field.under_way(self) Field.done(self) Field.do(self,deed)",
     }
 

@@ -8,11 +8,13 @@ from fractions import Fraction
 from goodtill.asking import asked_run, is_fresh, letters_heard, way_keepers
 from goodtill.carry import joined_view, letter_events
 from goodtill.custody import keeper_rows, owed_gives, standing_terms, unknown_to_keeper
+from goodtill.desk import Desk
 from goodtill.fields import Field
 from goodtill.finders import good_ticks, may_tell, why_certain
 from goodtill.fits import earliest_fit, fit_fault, latest_fit, met_wishes, mixed_fit
 from goodtill.houses import entry_points, may_put, own_end, put_wait, shut_places, why_alive
 from goodtill.hastejudge import haste_serves
+from goodtill.hastes import haste_run
 from goodtill.journal import Journal, read_journal
 from goodtill.judging import has_right
 from goodtill.pages import page_rows
@@ -21,12 +23,15 @@ from goodtill.promises import does_stand, gives_on, has_sworn, holders_of, is_pa
 from goodtill.recall import fewest_swears, left_to_swear, sworn_view
 from goodtill.runs import World, are_alike, check_run, is_stale, lost_puts, record_of_run, seen_by, walk_truth
 from goodtill.slipjudge import slip_serves
+from goodtill.slips import slip_run
+from goodtill.stops import Keeper, harm_of, stop_run, stop_serves
 from goodtill.tables import Table
 from goodtill.tree import walk_view
 from goodtill.views import check_view, common_view, is_behind, life_gaps, past_of, view_of
 from goodtill.webs import positive_ring, ring_serves, ways_from, ways_to, web_of
+from goodtill.whole import whole_meter
 from goodtill.wire import decode_stream, encode_stream, pack_events, unpack_events
-from tests import some_events
+from tests import slow_lines, some_events
 from tests.build import Rows, chain
 from tests.slow_webs import pair
 from tests.some_houses import Play
@@ -339,6 +344,97 @@ class Sizes(unittest.TestCase):
         for _ in range(6):
             field.do(("double", 0))
         self.assertEqual(len(field.done()), 35)
+
+    def within(self, run):
+        """The numerators and denominators of a run that is told keep to what point 5 tells."""
+        for event, (n, d) in run:
+            self.assertTrue(abs(n) <= 10 ** 34 and d <= 10 ** 16)
+            for n, d in [event[1]] + [part for part in event[2] if event[2][0] == "give" and part == event[2][3]]:
+                self.assertTrue(0 <= n <= 10 ** 34 and d <= 10 ** 16)
+
+    def test_runs_that_show_something_of_rows_of_60_events(self):
+        roster, row, terms = large_sight()
+        slow = tuple((997 - node, 999 - node) for node in range(8))
+        for clocks in (roster, slow, ((991, 1000),) * 8):
+            if positive_ring(clocks, row) is not None:
+                continue
+            for node in range(8):
+                for name in (("a",), ("a", "b", "c", "d", "e", "a"), ("a", "z"), ("q",)):
+                    for answer in ((("nothing",), ()), walk_view(row, name, 8)[0]):
+                        if may_tell(clocks, row, node, name, 8) != ("told", answer):
+                            run = slip_run(clocks, row, node, name, 8, answer)
+                            self.within(run)
+                            self.assertIs(slip_serves(clocks, row, node, name, 8, answer, run), True)
+            for term in terms:
+                for label in ("a", "b", "c", "q"):
+                    if may_put(clocks, row, 0, term, label)[0] == "not":
+                        run = haste_run(clocks, row, 0, term, label, ("value", 10 ** 10))
+                        self.within(run)
+                        self.assertIs(haste_serves(clocks, row, 0, term, label, ("value", 10 ** 10), run), True)
+            for deed in (("send", 9), ("tell", ("a", "b", "c", "d", "e", "a"), 8, (("nothing",), ()))):
+                run = stop_run(clocks, row, 0, None, deed)
+                self.within(run)
+                self.assertIs(stop_serves(clocks, row, 0, None, deed, run), True)
+
+    def test_the_whole_of_a_large_row(self):
+        roster, row, _ = large_sight()
+        run = tuple((event, (event[1][0] * 500, event[1][1])) for event in row)
+        run = tuple((event, pair(Fraction(n, d))) for event, (n, d) in run)
+        self.assertIs(check_run(roster, run), run)
+        names = (("a",), ("a", "b"), ("a", "b", "c"), ("a", "z"), ("q",), ("a",) * 6)
+        for place in (20, 40, 60):
+            self.assertEqual(len(whole_meter(roster, run, place, names, 8)), 8)
+
+    def test_the_whole_of_a_run_of_500_events(self):
+        """Thirty-two nodes; house 0 has promised much to node 1, and the others write to each other now and then."""
+        rows = Rows()
+        for node in range(32):
+            rows.start(node)
+        rows.letter(1, 0)
+        for at in range(24):
+            rows.put(0, (), "abcdefghijklmnopqrstuvwx"[at], ("value", at))
+        for at in range(24):
+            rows.give(0, (), "abcdefghijklmnopqrstuvwx"[at], 10 ** 6, 1 + at % 4)
+        rows.do(0, "send", 1)
+        for number in range(500 - len(rows.row)):
+            rows.do(2 + number % 30, "tick", at=number // 30 + 1, now=number // 30 + 1)
+        self.assertEqual(len(rows.row), 500)
+        run = rows.run()
+        self.assertIs(check_run(((1, 1),), run), run)
+        meter = whole_meter(((1, 1),), run, 500, tuple((label,) for label in "abcdef"), 8)
+        self.assertEqual({outcome[0] for _, outcome in meter[0][2]}, {"haste"})
+
+    def test_harms_of_runs_of_500_events(self):
+        roster, run = large_run(5, 500, 8, 10 ** 4)
+        harm_of(run)
+        rows = Rows()
+        rows.start(0)
+        for number in range(249):
+            rows.put(0, (), "a", ("value", number))
+            rows.do(0, "tell", ("a",), 8, (("value", number), ()))
+        self.assertIsNone(harm_of(rows.run()))
+
+    def test_keepers_of_60_events(self):
+        keeper = Keeper(((1, 1000),) * 8, 0)
+        keeper.start((1, 3))
+        for number in range(1, 60):
+            deed = ("put", (), "abc"[number % 3], ("value", number)) if number % 2 else ("tell", ("a",), 8, (("value", 1), ()))
+            keeper.do(((0, 0, number), (number, 3) if number % 3 else (number // 3, 1), deed), ())
+        self.assertEqual(len(keeper.view()), 60)
+        keeper.stop(60)
+
+    def test_desks_of_400_changes(self):
+        desk = Desk()
+        desk.say("roster " + " ".join(["1-1000"] * 32))
+        _, row, _ = large_sight()
+        for event in row:
+            self.assertEqual(desk.say(slow_lines.line(event))[-8:], ", 0 laid")
+        for number in range(330):
+            desk.say(f"lay {number} tick 0.0.{number} {number}")
+        for line in ("pocket 0", "may 0 root a", "haste 0 root a none", "judge haste 0 root a none", "slip 3 a 0 nothing", "check", "harm"):
+            desk.say(line)
+        for _ in range(390):
+            desk.say("undo")
 
     def test_130_events_on_the_wire(self):
         dice = random.Random(9)
