@@ -16,14 +16,14 @@ def leaned_on(events, name, most):
 def is_stale_telling(record, lost, place):
     """Whether a telling's answer is not what is so at its place."""
     _, name, most, answer = record.events[place][2]
-    kept = [event for at, event in enumerate(record.events[:place]) if not has_bit(lost, at)]
-    return walk_by(contents_of(kept), name, most)[0] != answer
+    ahead = (1 << place) - 1
+    return walk_by(contents_of(record.events_of(ahead & ~lost)), name, most)[0] != answer
 
 
 def leans_on_lost(record, lost, place):
     """Whether a telling leans on a lost put."""
     _, name, most, _ = record.events[place][2]
-    seen = record.those_within(range(place), record.pasts[place])
+    seen = record.events_of(record.pasts[place])
     return any([has_bit(lost, record.places[put]) for put in leaned_on(seen, name, most)])
 
 

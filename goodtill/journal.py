@@ -66,8 +66,8 @@ def row_line(event):
     """The line of a row: the octets of the event, two signs for each, and their check."""
     octets = encode_event(event)
     signs = [SIGNS[octet // 16] + SIGNS[octet & 15] for octet in octets]
-    total = sum([place * octet for place, octet in enumerate(octets, start=1)])
-    return "".join(signs) + f" {total % CHECK}"
+    check = sum([place * octet for place, octet in enumerate(octets, start=1)]) % CHECK
+    return "".join(signs) + f" {check}"
 
 
 def read_node(line):
@@ -81,13 +81,14 @@ def read_node(line):
 def read_row(line):
     """The event of which this is the line of a row, None if there is none."""
     signs = line.partition(" ")[0]
-    if len(signs) & 1 == 1 or not all([sign in SIGNS for sign in signs]):
+    if len(signs) & 1 == 1:
         return None
-    pairs = [(SIGNS.find(signs[at]), SIGNS.find(signs[at + 1])) for at in range(0, len(signs), 2)]
+    octets = [16 * SIGNS.find(signs[at]) + SIGNS.find(signs[at + 1]) for at in range(0, len(signs), 2)]
     try:
-        event = decode_event([16 * high + low for high, low in pairs])
+        event = decode_event(octets)
     except BadOctets:
         return None
+    # One event has one line: other signs, or another check, are told apart by this.
     return event if row_line(event) == line else None
 
 

@@ -9,7 +9,7 @@ from goodtill.views import is_later_start
 
 def past_events(record, event):
     """The events of an event's past, but itself, in the order of the record."""
-    return tuple(record.those_within(range(len(record.events)), record.past_without(event)))
+    return tuple(record.events_of(record.past_without(event)))
 
 
 def next_deed(record, view, node, deed):

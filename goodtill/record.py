@@ -90,6 +90,10 @@ class Record:
         """The events at those of some places that a past has."""
         return [self.events[place] for place in places if has_bit(past, place)]
 
+    def events_of(self, past):
+        """The events of a past, in the order of the row."""
+        return [event for place, event in enumerate(self.events) if has_bit(past, place)]
+
     def neighbours(self, event_id):
         """The events next ahead of and next behind an id on its line, None where there is none."""
         ahead = behind = None

@@ -114,8 +114,8 @@ def sight_of(roster, events, node):
     record = record_of(view)
     left = last_left(line_of(view, node))
     common = common_past(record, node, left)
-    seen = tuple([event for place, event in enumerate(view) if has_bit(common, place)])
-    return Sight(roster, node, record, common, left, RowWays(roster, view, record.lines[node][-1], seen, left))
+    ways = RowWays(roster, view, record.lines[node][-1], tuple(record.events_of(common)), left)
+    return Sight(roster, node, record, common, left, ways)
 
 
 def timeless_sight(events, node):

@@ -44,7 +44,7 @@ def staged(sight, house):
     last = left_ahead(sight)
     for event, instant in timed(sight.record, early_instants(sight)):
         stage.lay(event, instant)
-        if last is not None and event == last:
+        if event == last:
             left = stage.do(sight.node, ("send", house), instant)
     return stage, left
 
@@ -79,14 +79,11 @@ def call_back(stage, sight, house, place):
 
 def other_entry(sight, place, name, most, answer):
     """An entry that changes a place on the way of a walk, and its answer."""
-    term, label = place
-    events = sight.record.events
-    if sight.record.content(term, label, sight.whole)[1] is not None:
-        contents = contents_of(events)
-        contents[place] = (term, None)
-        if walk_by(contents, name, most)[0] != answer:
-            return None
-    # The walk takes up one name more.
+    contents = contents_of(sight.record.events)
+    contents[place] = (place[0], None)
+    if walk_by(contents, name, most)[0] != answer:
+        return None
+    # Nothing stands there, or nothing would do as well: with another name the walk takes up one name more.
     return ("name", ("a",))
 
 

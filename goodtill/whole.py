@@ -54,8 +54,7 @@ def whole_meter(roster, run, place, names, most):
     rows = []
     for node in sorted(seen):
         if not is_torn(seen[node], losses):
-            view = tuple(record.those_within(range(place), seen[node]))
-            sight = sight_of(roster, view, node)
+            sight = sight_of(roster, tuple(record.events_of(seen[node])), node)
             rows.append((node, tells_of(sight, names, most), puts_of(sight)))
     return tuple(rows)
 

@@ -312,6 +312,45 @@ class Rule(unittest.TestCase):
         field.do(("bring", 0))
         self.assertEqual([event[2][1] for event, _ in field.run() if event[2][0] == "tell"], [("a",), ("b",)])
 
+    def test_own_asks_are_sent_again_by_letters_and_asks_alone(self):
+        """Node 1 has an open ask of its own; wishing, handing over and forgetting it writes no letter for that."""
+        field = led([("wish", 0, (), "x", ("page", 1, ())), ("wish", 0, (), "y", ("page", 1, ())), ("ask", 1, ("x", "a"), 0), ("bring", 0), ("bring", 0)])
+        field.do(("ask", 1, ("q",), 0))
+        field.do(("lose", 0))
+        x, y = [event[0] for event, _ in field.run() if event[2][0] == "put"]
+        give = [event[0] for event, _ in field.run() if event[2][0] == "give"][0]
+        field.do(("wish", 1, x, "a", FIVE))
+        self.assertEqual(field.under_way(), ())
+        field.do(("hand", 1, x, 2))
+        self.assertEqual([to for _, to in field.under_way()], [2])
+        field.do(("forget", 1, give))
+        self.assertEqual([to for _, to in field.under_way()], [2, 0])
+        field.do(("ask", 1, ("r",), 0))
+        self.assertEqual([to for _, to in field.under_way()], [2, 0, 0])
+        self.assertNotEqual(x, y)
+
+    def test_another_telling_does_not_answer_an_ask(self):
+        """House 0 tells a itself, with 2's ask in its past; when a has come to be another name, it still serves 2."""
+        field = led([("wish", 0, (), "a", FIVE), ("ask", 2, ("a",), 1), ("bring", 0), ("lose", 0), ("ask", 0, ("a",), 1), ("time", LENGTH)])
+        for deed in (("wish", 0, (), "a", ("name", ("c",))), ("ask", 2, ("q",), 0), ("bring", 0)):
+            field.do(deed)
+        self.assertEqual([event[2][2] for event, _ in field.run() if event[2][0] == "give"], ["a", "c", "q"])
+
+    def test_any_house_that_has_handed_its_page_over(self):
+        field = led([("wish", 0, (), "x", ("page", 1, ())), ("ask", 3, ("x", "a"), 0), ("bring", 0), ("double", 0), ("hand", 1, (0, 0, 2), 2)])
+        self.assertEqual([to for _, to in field.under_way()], [1, 3, 2])
+        field.do(("ask", 4, ("x", "b"), 0))
+        field.do(("bring", 3))
+        many = len(field.run())
+        field.do(("bring", 3))
+        self.assertEqual([(event[0][0], event[2][:2]) for event, _ in field.run()[many:]], [(1, ("hear", (0, 0, 8))), (1, ("send", 2))])
+
+    def test_the_last_node(self):
+        field = led([("clock", 31, (1, 1)), ("time", (3, 1)), ("wish", 0, (), "x", ("page", 31, ())), ("ask", 31, ("x",), 0), ("bring", 0), ("bring", 0)])
+        self.assertEqual(field.run()[-1][0][:2], ((31, 0, 4), (3, 1)))
+        field.do(("wish", 31, (0, 0, 2), "a", FIVE))
+        self.assertEqual(field.done()[1][2], (3, 1))
+
     def test_to_none_twice_and_in_order(self):
         field = led([("ask", 3, ("a",), 0), ("lose", 0), ("ask", 1, ("a",), 0), ("lose", 0), ("ask", 3, ("b",), 0), ("bring", 0)])
         self.assertEqual([to for _, to in field.under_way()], [3])

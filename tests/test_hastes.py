@@ -14,6 +14,7 @@ from tests.build import Rows
 from tests.slow_custody import is_kept
 from tests.slow_judges import haste_faults
 from tests.some_houses import some_late_sight
+from tests.some_rows import in_some_order
 from tests.test_slips import most_events
 from tests.told import ANYTHING, told
 
@@ -212,6 +213,7 @@ class Hastes(unittest.TestCase):
         for seed in range(420):
             dice = random.Random(42000 + seed)
             roster, row = some_late_sight(dice, dice.randint(6, 36), dice.randint(2, 5), dice.choice((0, 0.03, 0.1)))
+            row = in_some_order(dice, row)
             for node in range(5):
                 view = view_of(row, node)
                 for term in [()] + [event[0] for event in view if is_page_put(event)]:

@@ -210,6 +210,37 @@ class Slips(unittest.TestCase):
             rows.do(1, "tell", A, 0, wrong)
             self.assertEqual(self.judged(rows.run(), view, answer=wrong), {3} if deed in extra else set(), deed)
 
+    def test_an_ended_life_of_a_node_that_only_holds(self):
+        wrong = (("value", 8), ())
+        for deed, faults in ((("swear", (0, 0, 2)), {3}), (("pass", (0, 0, 2), 4), {3}), (("tick",), set()), (("tell", A, 0, ANSWER), {3})):
+            rows = Rows()
+            rows.start(0)
+            rows.put(0, (), "a", VALUE)
+            rows.give(0, (), "a", 10, 2)
+            rows.start(2, at=7)
+            rows.do(2, "send", 0)
+            rows.do(0, "hear", (2, 0, 1))
+            rows.do(2, "hear", rows.do(0, "send", 2))
+            outside = rows.do(2, *deed)
+            rows.start(2, (2, 0, 2))
+            rows.start(3)
+            rows.do(3, "hear", rows.do(2, "send", 3))
+            view = tuple(event for event in rows.row if event[0] != outside)
+            rows.do(3, "tell", A, 0, wrong)
+            self.assertEqual(self.judged(rows.run(), view, node=3, answer=wrong) - {4}, faults)
+
+    def test_weighty_deeds_of_nodes_that_the_view_does_not_know(self):
+        rows = self.taken()
+        given = rows.give(0, (), "c", 99, 6)
+        rows.start(6)
+        rows.letter(0, 6)
+        rows.do(6, "pass", given, 7)
+        rows.start(7)
+        rows.letter(6, 7)
+        rows.do(7, "swear", given)
+        self.last(rows)
+        self.assertEqual(self.judged(rows.run()), set())
+
     def test_puts_that_are_not_let(self):
         rows = self.taken()
         rows.put(0, (), "b", VALUE)
@@ -482,6 +513,27 @@ class Hastes(unittest.TestCase):
         rows.do(1, "hear", (0, 0, 6), at=(9, 2))
         self.last(rows, name=A, most=1, answer=(VALUE, (("b",),)))
         self.assertEqual(self.judged(rows.run(), view), {4, 6})
+
+    def test_another_page_with_the_same_below(self):
+        """The put is not let; but whoever walks on by the elder page comes to the same value as by the new one."""
+        rows = Rows()
+        rows.start(0)
+        page = ("page", 0, (("b", VALUE), ("c", VALUE)))
+        term = rows.put(0, (), "a", page)
+        rows.start(1)
+        rows.letter(1, 0)
+        rows.give(0, (), "a", 10, 1)
+        rows.give(0, term, "b", 10, 1)
+        rows.do(0, "send", 1)
+        rows.do(0, "tick", at=9, now=9)
+        view = rows.events()
+        for entry, faults in ((page, {5}), (("page", 0, (("c", VALUE),)), set())):
+            run = Rows()
+            run.row, run.instants = list(rows.row), list(rows.instants)
+            run.put(0, (), "a", entry)
+            run.do(1, "hear", (0, 0, 5), at=(9, 2))
+            self.last(run, name=("a", "b"))
+            self.assertEqual(self.judged(run.run(), view, entry=entry), faults)
 
     def test_an_answer_that_is_not_stale(self):
         rows = self.taken(("value", 6))

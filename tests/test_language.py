@@ -181,6 +181,39 @@ class Language(unittest.TestCase):
                     self.assertIn(node.func.attr, METHODS | own, name)
                     self.assertFalse(node.func.attr in METHODS and node.keywords, name)
 
+    def test_what_is_iterated_is_iterated_at_once(self):
+        at_once = set("list tuple dict sorted sum any all enumerate zip min max".split())
+        for name, tree in trees().items():
+            within = {child: node for node in ast.walk(tree) for child in ast.iter_child_nodes(node)}
+            for node in ast.walk(tree):
+                if not isinstance(node, ast.Call):
+                    continue
+                plain = isinstance(node.func, ast.Name) and node.func.id in ("range", "zip", "enumerate", "reversed")
+                view = isinstance(node.func, ast.Attribute) and node.func.attr in ("items", "keys", "values")
+                if plain or view:
+                    outer = within[node]
+                    loop = isinstance(outer, (ast.For, ast.comprehension)) and outer.iter is node
+                    call = isinstance(outer, ast.Call) and isinstance(outer.func, ast.Name) and outer.func.id in at_once
+                    ranges = isinstance(outer, ast.Call) and ast.unparse(outer).startswith(("reversed(range(", "len(range("))
+                    self.assertTrue(loop or call or ranges, (name, ast.unparse(outer)))
+
+    def test_no_remainder_in_a_string(self):
+        for name, tree in trees().items():
+            for node in ast.walk(tree):
+                if isinstance(node, ast.JoinedStr):
+                    self.assertFalse(any(isinstance(one, ast.Mod) for one in ast.walk(node)), name)
+
+    def test_loops_do_not_change_what_they_go_over(self):
+        changing = set("append clear extend insert pop remove reverse setdefault update".split())
+        for name, tree in trees().items():
+            for loop in ast.walk(tree):
+                if not isinstance(loop, ast.For):
+                    continue
+                over = {ast.unparse(one) for one in ast.walk(loop.iter) if isinstance(one, (ast.Name, ast.Attribute))}
+                for node in ast.walk(ast.Module(loop.body, [])):
+                    if isinstance(node, ast.Call) and isinstance(node.func, ast.Attribute) and node.func.attr in changing:
+                        self.assertNotIn(ast.unparse(node.func.value), over, name)
+
     def test_sets_are_not_stored(self):
         for name, tree in trees().items():
             for node in ast.walk(tree):

@@ -14,6 +14,7 @@ from tests.build import Rows
 from tests.slow_custody import is_kept
 from tests.slow_judges import slip_faults
 from tests.some_houses import some_late_sight
+from tests.some_rows import in_some_order
 from tests.told import ANYTHING, told
 
 ROSTER = ((1, 1), (1, 2), (2, 3), (1, 4))
@@ -192,6 +193,41 @@ class Slips(unittest.TestCase):
         self.assertEqual(check_view(row), row)
         self.shows(ROSTER, row, 1, A, 0, NOTHING)
 
+    def test_rows_in_which_an_elder_life_stands_behind_a_later_one(self):
+        rows = Rows()
+        rows.start(1)
+        rows.do(1, "send", 0)
+        rows.start(1, (1, 0, 1))
+        rows.do(1, "send", 0)
+        rows.do(1, "tick", life=0)
+        rows.do(1, "send", 0, life=0)
+        rows.start(0)
+        for send in ((1, 1, 1), (1, 0, 3)):
+            rows.do(0, "hear", send)
+        self.assertEqual(check_view(rows.events()), rows.events())
+        run = self.shows(ROSTER, rows.events(), 0, A, 0, ANSWER)
+        lives = [event[0] for event, _ in run if event[0][0] == 1]
+        self.assertEqual(lives, sorted(lives))
+        rows.start(3)
+        rows.letter(0, 3)
+        self.shows(ROSTER, rows.events(), 3, A, 0, NOTHING)
+
+    def test_houses_with_slow_clocks_that_nothing_leads_to(self):
+        """What node 1 has heard of house 2 may be as old as can be: by now its clock may read any end."""
+        for clocks in (((1, 1), (1, 1), (1000, 1000)), ((1, 1), (1, 1), (1000, 1000), (7, 9))):
+            rows = Rows()
+            rows.start(0)
+            rows.put(0, (), "a", VALUE)
+            rows.do(0, "hand", (), 2)
+            rows.start(2)
+            rows.letter(0, 2)
+            rows.give(2, (), "a", 10 ** 10, 1)
+            rows.do(2, "hand", (), 3)
+            rows.start(1)
+            rows.letter(2, 1)
+            run = self.shows(clocks, rows.events(), 1, A, 0, ANSWER)
+            self.assertEqual([event[0][0] for event, _ in run if event[2] == ("put", (), "a", None)], [3])
+
     def test_more_events_than_the_node_has_seen(self):
         rows = self.asked()
         view = rows.events()
@@ -206,6 +242,7 @@ class Slips(unittest.TestCase):
         for seed in range(260):
             dice = random.Random(31000 + seed)
             roster, row = some_late_sight(dice, dice.randint(1, 36), dice.randint(2, 5), dice.choice((0, 0, 0.03, 0.1)))
+            row = in_some_order(dice, row)
             for node in range(5):
                 if not view_of(row, node):
                     continue

@@ -14,6 +14,7 @@ from tests.build import Rows
 from tests.slow_custody import is_kept
 from tests.slow_webs import number, pair
 from tests.some_houses import Play, some_clocks, some_sight
+from tests.some_rows import in_some_order
 from tests.test_slips import most_events
 from tests.told import ANYTHING, told
 
@@ -263,6 +264,18 @@ class Shown(unittest.TestCase):
         rows.letter(1, 2)
         self.assertEqual(self.judged(ROSTER, view, 0, None, deed, rows.run()), set())
 
+    def test_letters_amid_what_others_do(self):
+        """Whoever hears both has seen the deed and the start, not what happened to stand next to them."""
+        rows = self.base()
+        sent = rows.do(0, "send", 1)
+        rows.start(4)
+        rows.start(1)
+        rows.do(1, "hear", sent)
+        rows.start(0, (0, 0, 0))
+        rows.start(5)
+        rows.letter(0, 1)
+        self.assertEqual(self.judged(ROSTER, self.base().events(), 0, None, ("send", 1), rows.run()), set())
+
     def test_one_thing_turned(self):
         view = self.base().events()
         run = self.told((0, 0, 0)).run()
@@ -321,6 +334,7 @@ class Shown(unittest.TestCase):
         for seed in range(160):
             dice = random.Random(52000 + seed)
             roster, row = some_sight(dice, dice.randint(1, 30), dice.randint(2, 4), dice.choice((0, 0.05)))
+            row = in_some_order(dice, row)
             for node in range(4):
                 view = view_of(row, node)
                 if not view:
@@ -439,7 +453,7 @@ class Keepers(unittest.TestCase):
         here = (1, 0, 1)
         self.bad(keeper, ("do", (here, (2, 1), ("tick",)), ()), ("do", (here, (3, 1), ("send", 1)), ()), ("do", (here, (3, 1), ("put", (), "a", VALUE)), ()),
                  ("do", ((0, 0, 1), (3, 1), ("tick",)), ()), ("do", ((1, 0, 2), (3, 1), ("tick",)), ()), ("do", ((1, 1, 0), (3, 1), ("start", None)), ()),
-                 ("do", (here, (3, 1), ("start", None)), ()), ("do", (here, (3, 1), ("swear", (0, 0, 1))), ()), ("do", (here, (3, 1), ("hear", (5, 0, 0))), ()))
+                 ("do", (here, (3, 1), ("start", None)), ()), ("do", ((1, 1, 0), (3, 1), ("start", (1, 0, 0))), ()), ("do", (here, (3, 1), ("swear", (0, 0, 1))), ()), ("do", (here, (3, 1), ("hear", (5, 0, 0))), ()))
         self.bad(keeper, *[("do", value, ()) for value in ANYTHING])
         self.assertIs(keeper.do((here, (3, 1), ("send", 4)), ()), False)
         self.bad(keeper, ("do", (here, (3, 1), ("tick",)), ()))
