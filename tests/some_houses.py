@@ -6,9 +6,13 @@ The runs are told by `World`, so they are runs, and what a node sees of them has
 from fractions import Fraction
 
 from goodtill.coming import may_come
+from goodtill.finders import may_tell
+from goodtill.houses import may_put
 from goodtill.record import Record
 from goodtill.runs import World
+from goodtill.views import view_of
 from tests.slow_webs import bounds, number, pair
+from tests.told import told
 
 LABELS = ("a", "b", "c", "bb")
 FIRST = ((), (), (("a", ("value", 1)),), (("b", ("name", ("a",))), ("c", ("value", 2))))
@@ -157,6 +161,33 @@ class Play:
                              ("page", dice.randrange(self.nodes), dice.choice(FIRST)),
                              ("page", dice.randrange(self.nodes), dice.choice(FIRST))))
         return ("put", term, label, entry)
+
+
+class TellingPlay(Play):
+    """Nodes that often tell what they think."""
+
+    def deed(self, node):
+        if self.dice.random() < 0.25 and node in self.last:
+            name = (self.dice.choice(("a", "b", "c")),) * self.dice.choice((1, 1, 2))
+            view = view_of(tuple(self.record.events), node)
+            told_now = told(may_tell, self.roster, view, node, name, 1)
+            if told_now[0] == "gives" and told_now[1][0] == "told":
+                return ("tell", name, 1, told_now[1][1])
+        return Play.deed(self, node)
+
+
+class RulePlay(TellingPlay):
+    """Nodes that put only what is let and tell only what is told."""
+
+    def add(self, event):
+        event_id, reading, deed = event
+        if deed[0] in ("put", "tell"):
+            on = view_of(tuple(self.record.events), event_id[0]) + ((event_id, reading, ("tick",)),)
+            if deed[0] == "put" and told(may_put, self.roster, on, event_id[0], deed[1], deed[2])[1][0] != "let":
+                return False
+            if deed[0] == "tell" and may_tell(self.roster, on, event_id[0], deed[1], deed[2]) != ("told", deed[3]):
+                return False
+        return Play.add(self, event)
 
 
 def with_lives_moved(row, moves):

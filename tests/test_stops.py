@@ -13,7 +13,7 @@ from tests import slow_stops
 from tests.build import Rows
 from tests.slow_custody import is_kept
 from tests.slow_webs import number, pair
-from tests.some_houses import Play, some_clocks, some_sight
+from tests.some_houses import TellingPlay, some_clocks, some_sight
 from tests.some_rows import in_some_order
 from tests.test_slips import most_events
 from tests.told import ANYTHING, told
@@ -195,19 +195,6 @@ class Harms(unittest.TestCase):
             self.assertEqual(harm, slow_stops.harm_of(run), run)
             found[harm and harm[0]] = found.get(harm and harm[0], 0) + 1
         self.assertLessEqual({None, "stale", "torn"}, set(found), found)
-
-
-class TellingPlay(Play):
-    """Nodes that often tell what they think."""
-
-    def deed(self, node):
-        if self.dice.random() < 0.25 and node in self.last:
-            name = (self.dice.choice(("a", "b", "c")),) * self.dice.choice((1, 1, 2))
-            view = view_of(tuple(self.record.events), node)
-            told_now = told(may_tell, self.roster, view, node, name, 1)
-            if told_now[0] == "gives" and told_now[1][0] == "told":
-                return ("tell", name, 1, told_now[1][1])
-        return Play.deed(self, node)
 
 
 class Shown(unittest.TestCase):

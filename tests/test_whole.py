@@ -10,12 +10,13 @@ from goodtill.houses import may_put
 from goodtill.pages import content_of, does_keep
 from goodtill.runs import is_stale, seen_by
 from goodtill.slipjudge import slip_serves
+from goodtill.stops import harm_of
 from goodtill.tree import walk_view, way_to
 from goodtill.views import view_of
 from goodtill.whole import whole_meter, wider_run
 from tests.build import Rows
 from tests.slow_runs import is_torn
-from tests.some_houses import Play, some_clocks, some_late_sight
+from tests.some_houses import Play, RulePlay, some_clocks, some_late_sight
 from tests.told import ANYTHING, told
 
 ROSTER = ((1, 1), (1, 2), (2, 3))
@@ -137,6 +138,30 @@ class Meter(unittest.TestCase):
                     for _, outcome in tells + puts:
                         found[outcome[0]] = found.get(outcome[0], 0) + 1
         self.assertGreater(min(found[key] for key in ("told", "slip", "let", "haste")), 15, found)
+
+
+class MainTheorem(unittest.TestCase):
+    """Point 92 (1), and with it points 43, 63 (1) and 71: runs whose nodes keep to the rule."""
+
+    def test_no_answer_is_stale_and_no_page_has_two_keepers(self):
+        tells = puts = 0
+        for seed in range(120):
+            dice = random.Random(63000 + seed)
+            nodes = dice.randint(2, 4)
+            roster = some_clocks(dice, nodes)
+            run = RulePlay(dice, roster, nodes, dice.choice((0, 0.05))).grow(dice.randint(5, 40))
+            for place, (event, _) in enumerate(run):
+                if event[2][0] == "tell":
+                    tells += 1
+                    self.assertIs(is_stale(run, place), False)
+                puts += event[2][0] == "put"
+            self.assertIsNone(harm_of(run))
+            pages = [()] + [event[0] for event, _ in run if is_page_put(event)]
+            for place in range(len(run) + 1):
+                views = [seen_by(run, place, node) for node in range(nodes)]
+                for term in pages:
+                    self.assertLessEqual(len([node for node in range(nodes) if does_keep(views[node], node, term)]), 1)
+        self.assertGreater(min(tells, puts), 100)
 
 
 class Wider(unittest.TestCase):
